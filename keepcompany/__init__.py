@@ -1,0 +1,1 @@
+"""Keepcompany: whether a box stays steady, whoever comes to join it."""
