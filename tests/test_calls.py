@@ -159,6 +159,8 @@ class CallTests(unittest.TestCase):
             self.assertEqual(own.__module__, "keepcompany.errors")
         for own in (errors.Unfit, errors.Stuck, errors.CanNot, errors.NoPaper, errors.TooMany):
             self.assertIsInstance(own(), ValueError)
+            self.assertEqual(copy.copy(own()).args, ())
+        self.assertEqual(copy.copy(errors.BadText(3)).line, 3)
         self.assertEqual(errors.BadText(3).line, 3)
         self.assertEqual(errors.BadText(line=4).line, 4)
 
@@ -201,6 +203,20 @@ class CallTests(unittest.TestCase):
                         given[at] = wrong
                         with self.assertRaises(Unfit):
                             function(*given)
+
+    def test_deep_lists_are_unfit(self):
+        deep = []
+        for _ in range(50000):
+            deep = [deep]
+        for function, name, told in each_call():
+            for at, (_, kind, _) in enumerate(told):
+                given = [own[2] for own in told]
+                given[at] = deep
+                if kind == "thing":
+                    self.assertIs(function(*given), False)
+                else:
+                    with self.assertRaises(Unfit):
+                        function(*given)
 
     def test_unfit_ahead_of_all_else(self):
         damp = box([-1], [1])

@@ -89,6 +89,9 @@ class SquareTests(unittest.TestCase):
             squares_hold(self, sums, squares_for(sums))
             sums = row(*[Fraction(many * 2 + 1, BIG)] + [Fraction((-1) ** k, BIG - 1) for k in range(many - 1)])
             squares_hold(self, sums, squares_for(sums))
+        # At one place nothing is left to be a square of its own.
+        for sums in (row(1), row("1/7"), row(1, "1/3"), row(3, 1, "1/10"), row(3, -1, "-1/10", 0), row(3, 0, 1), row(4, 0, 0, 1)):
+            squares_hold(self, sums, squares_for(sums))
         for sums in (row(0), row(-1), row(0, 0), row(1, 1), row(1, "1/2"), row(1, "-1/2"), row(0, 1)):
             with self.assertRaises(CanNot):
                 squares_for(sums)
