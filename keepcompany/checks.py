@@ -88,6 +88,14 @@ def taken_from(value, low):
     return kept
 
 
+def taken_above(value):
+    """value, a FRACTION above 0."""
+    kept = taken_fraction(value)
+    if kept[0] <= 0:
+        raise Unfit()
+    return kept
+
+
 def taken_width(value):
     """value, a FRACTION from 1 / 10 ** 6 to 1."""
     kept = taken_fraction(value)

@@ -3,10 +3,10 @@
 from keepcompany.checks import taken_between, taken_width
 from keepcompany.errors import CanNot, Unfit
 from keepcompany.polys import added, multiplied, valued
-from keepcompany.ratios import ONE, ZERO, middle, mult, wholes
+from keepcompany.ratios import ONE, ZERO, mult, wholes
 from keepcompany.rims import (HIGH, LOW, curve_of, dips, keeps, parts_of, size_curve, slants_of)
 from keepcompany.shapes import taken_small
-from keepcompany.spans import spans_of
+from keepcompany.spans import between_spans, spans_of
 
 
 def slants(box):
@@ -29,12 +29,8 @@ def low_place(p):
     """A FRACTION from -1 to 1 at which the POLY p is below 0; None if there is none."""
     if not dips(p):
         return None
-    ends = [LOW]
-    for start, end in spans_of(wholes(p)[0], LOW, HIGH, ONE):
-        ends.extend([start, end])
-    ends.append(HIGH)
     # Between two roots the sign is one: the middle of each gap will tell it.
-    places = [middle(ends[k], ends[k + 1]) for k in range(0, len(ends), 2)]
+    places = between_spans(spans_of(wholes(p)[0], LOW, HIGH, ONE), LOW, HIGH)
     return [own for own in places if valued(p, own)[0] < 0][0]
 
 

@@ -50,6 +50,23 @@ def swept(rows, used, column, last):
     return out
 
 
+def determinant(grid):
+    """The determinant of as many rows of whole numbers as each of them has."""
+    rows = [list(own) for own in grid]
+    last = 1
+    for column in range(len(rows)):
+        pick = column
+        while pick < len(rows) and rows[pick][column] == 0:
+            pick += 1
+        if pick == len(rows):
+            return 0
+        if pick > column:
+            rows[column], rows[pick] = [-own for own in rows[pick]], rows[column]
+        rows = swept(rows, column, column, last)
+        last = rows[column][column]
+    return last
+
+
 def solution(table, row):
     """A ROW x with table times x being row; None if there is none."""
     if not table:

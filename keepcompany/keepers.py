@@ -9,6 +9,7 @@ from keepcompany.ratios import ZERO, below, mult, plus, wholes
 from keepcompany.rims import (HIGH, LOW, curve_of, depth_of, fails_damper, keeps, size_curve,
                               with_bottoms)
 from keepcompany.shapes import taken_small
+from keepcompany.steps import first_above
 from keepcompany.stores import store_found, store_shaped
 from keepcompany.wholepolys import count_between, sign_at
 from keepcompany.works import MOST_PUSHES, table_up_to
@@ -131,14 +132,9 @@ def nearest_keeper(box, width):
     if enough is None:
         raise NoPaper()
     # Of the dampers 1, 2, .. times width the first that does.
-    low, high = 0, enough * most[1] // most[0] + 1
-    while high - low > 1:
-        half = (low + high) // 2
-        if damped(own, mult(most, (half, 1))) is None:
-            low = half
-        else:
-            high = half
-    return damped(own, mult(most, (high, 1)))
+    many = first_above(0, enough * most[1] // most[0] + 1,
+                       lambda k: damped(own, mult(most, (k, 1))) is not None)
+    return damped(own, mult(most, (many, 1)))
 
 
 def echo_bound(box):

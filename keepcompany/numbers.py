@@ -1,6 +1,6 @@
 """POLYS and TABLES: sums, divisions, zeros, what is never below 0."""
 
-from keepcompany.checks import taken_fraction, taken_poly, taken_row_of, taken_table
+from keepcompany.checks import taken_above, taken_fraction, taken_poly, taken_row_of, taken_table
 from keepcompany.errors import CanNot, NoPaper, Unfit
 from keepcompany.grids import below_row, first_fall, solution
 from keepcompany.polys import added, multiplied, parted, parts_by_many, shared_part, valued, zeros_once
@@ -72,9 +72,7 @@ def root_spans(p, low, high, width):
     """The tuple of pairs (l, r), one for each root strictly between low and high."""
     one = taken_poly(p)
     start, end = stretch(low, high)
-    most = taken_fraction(width)
-    if most[0] <= 0:
-        raise Unfit()
+    most = taken_above(width)
     if not one:
         raise CanNot()
     return spans_of(wholes(one)[0], start, end, most)

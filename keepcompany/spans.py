@@ -1,6 +1,7 @@
 """The roots of a polynomial of whole numbers, each in a span of its own."""
 
 from keepcompany.ratios import below, middle, minus
+from keepcompany.steps import first_above
 from keepcompany.wholepolys import chain_of, changes_at, sign_at, simple, slope
 
 
@@ -29,6 +30,25 @@ def spans_of(p, low, high, width):
                 left.append((place, at, place, at))
             left.append((start, more, place, at))
     return tuple(out)
+
+
+def outgrows(p, k):
+    """Whether at 2 ** k the last term of p is greater than all others together."""
+    sizes = [abs(own) << (k * at) for at, own in enumerate(p)]
+    return sizes[-1] > sum(sizes[:-1])
+
+
+def ceiling(p):
+    """A number, a power of 2, above the size of each zero of p, real or not."""
+    most = max([abs(own) for own in p]) // abs(p[-1])
+    return 1 << first_above(-1, most.bit_length() + 1, lambda k: k >= 0 and outgrows(p, k))
+
+
+def between_spans(spans, low, high):
+    """The middles of what spans leave between low and high, one more than there are spans."""
+    starts = [low] + [own[1] for own in spans]
+    ends = [own[0] for own in spans] + [high]
+    return [middle(start, end) for start, end in zip(starts, ends)]
 
 
 def sign_behind(p, x):

@@ -171,10 +171,15 @@ def is_store(box, thing):
     return store_shaped(taken_small(box), thing)
 
 
+def half_sum(table, row):
+    """Half the sum of table over row."""
+    return mult((1, 2), table_sum(table, row))
+
+
 def worth(table, cells):
     """Half the sum of table over cells."""
     own = taken_table(table)
-    return mult((1, 2), table_sum(own, taken_row_of(cells, len(own))))
+    return half_sum(own, taken_row_of(cells, len(own)))
 
 
 def stores_mixed(table, other, far):
@@ -197,15 +202,20 @@ def store_of_turned(box, table):
     return tuple([times_row(row, by) for row in kept])
 
 
+def bounds_of_cells(table, most):
+    """The ROW of what the square of each cell is at most while half the sum is most."""
+    if not is_above(table):
+        raise CanNot()
+    many = len(table)
+    units = [tuple([ONE if k == place else ZERO for k in range(many)]) for place in range(many)]
+    twice = plus(most, most)
+    return tuple([mult(twice, solution(table, unit)[place]) for place, unit in enumerate(units)])
+
+
 def cell_bounds(table, most):
     """What the square of each cell is at most while half the sum of table is most."""
     own, half = taken_table(table), taken_from(most, 0)
-    if not is_above(own):
-        raise CanNot()
-    many = len(own)
-    units = [tuple([ONE if k == place else ZERO for k in range(many)]) for place in range(many)]
-    twice = plus(half, half)
-    return tuple([mult(twice, solution(own, unit)[place]) for place, unit in enumerate(units)])
+    return bounds_of_cells(own, half)
 
 
 def loss_free_store(box):

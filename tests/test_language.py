@@ -29,8 +29,10 @@ BARRED = set("""mro elements open input law version_info with_traceback add_note
 STARTS = ("_wall", "_pe_", "_dcw_", "_enum_", "_cm_", "_twin_re_", "_lay_", "_law_", "_stub_",
           "_sre", "__", "f_", "tb_", "co_", "gi_", "cr_", "ag_")
 NEVER = (ast.AsyncFunctionDef, ast.Global, ast.Set, ast.SetComp, ast.GeneratorExp, ast.Div,
-         ast.Lambda, ast.Yield, ast.YieldFrom, ast.Await, ast.NamedExpr, ast.With, ast.Import,
+         ast.Yield, ast.YieldFrom, ast.Await, ast.NamedExpr, ast.With, ast.Import,
          ast.JoinedStr, ast.Try, ast.MatMult, ast.Nonlocal, ast.Delete)
+# What a value at module level is made of.
+PLAIN = (ast.Constant, ast.Tuple, ast.BinOp, ast.Pow, ast.UnaryOp, ast.USub, ast.Load)
 
 
 def trees():
@@ -77,7 +79,8 @@ class LanguageTests(unittest.TestCase):
                 self.assertIsInstance(node, (ast.ImportFrom, ast.FunctionDef, ast.ClassDef, ast.Assign))
                 if isinstance(node, ast.Assign):
                     self.assertEqual(len(node.targets), 1)
-                    ast.literal_eval(node.value)
+                    for own in ast.walk(node.value):
+                        self.assertIsInstance(own, PLAIN, path)
                     names.append(node.targets[0].id)
                 elif isinstance(node, ast.ImportFrom):
                     names.extend(own.name for own in node.names)
