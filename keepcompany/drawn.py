@@ -3,8 +3,9 @@
 from keepcompany.checks import is_row_of, taken_number, taken_table_of
 from keepcompany.errors import CanNot
 from keepcompany.grids import first_fall, solution
-from keepcompany.ratios import ONE, ZERO, dot, minus, mult, negated, times_row
+from keepcompany.ratios import ZERO, dot, minus, mult, negated, times_row
 from keepcompany.rims import curve_of, keeps
+from keepcompany.rolls import units_of
 from keepcompany.shapes import cells_of, moved, rest_of, taken_cells, taken_small
 from keepcompany.stores import half_sum
 from keepcompany.works import table_up_to
@@ -19,11 +20,6 @@ def refuse_giver(box):
 
 def taken_k(value):
     return taken_number(value, 0, MOST_DRAWS)
-
-
-def units_of(many):
-    """The many ROWS with a 1 at one place and 0 else."""
-    return [tuple([ONE if k == place else ZERO for k in range(many)]) for place in range(many)]
 
 
 def left_answers(box, cells, k):

@@ -2,8 +2,9 @@
 
 from keepcompany.checks import is_fraction, taken
 from keepcompany.polys import added, multiplied
-from keepcompany.ratios import ONE, ZERO, minus, mult, negated, over, plus, wholes
-from keepcompany.shapes import polys_of, stepped
+from keepcompany.ratios import ONE, ZERO, minus, mult, negated, plus, wholes
+from keepcompany.rolls import machine_of_both, rolled
+from keepcompany.shapes import polys_of
 from keepcompany.wholepolys import outside_count
 
 KINDS = ("damper", "mass", "spring")
@@ -67,20 +68,12 @@ def away(box, other):
     return not stuck(box, other) and outside_of_both(box, other) > 0
 
 
-def joined_step(box, cells, other, other_cells, outer):
-    """The quadruple (push, answer, cells, other cells) of one JOINED BEAT with an outer push."""
-    held = stepped(box, cells, ZERO)[0]
-    back = plus(stepped(other, other_cells, ZERO)[0], mult(other[0][0], held))
-    push = over(minus(outer, back), first_lead(box, other))
-    answer, now = stepped(box, cells, push)
-    return push, answer, now, stepped(other, other_cells, answer)[1]
-
-
 def joined_steps(box, cells, other, other_cells, outers):
-    """The triple (pairs, cells, other cells) of one such beat for each of outers."""
-    pairs = []
-    now, beside = cells, other_cells
-    for outer in outers:
-        push, answer, now, beside = joined_step(box, now, other, beside, outer)
-        pairs.append((push, answer))
-    return tuple(pairs), now, beside
+    """The triple (pairs, cells, other cells) of one JOINED BEAT for each of outers."""
+    told, behind = rolled(machine_of_both(box, other), cells + other_cells, outers)
+    return tuple(told), behind[:len(cells)], behind[len(cells):]
+
+
+def states_between(machine, cells, many):
+    """The list of the CELLS behind each of so many beats with no outer push."""
+    return rolled((machine[1], machine[1]), cells, (ZERO,) * many)[0]

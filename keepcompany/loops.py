@@ -2,7 +2,7 @@
 
 from keepcompany.checks import is_row, taken, taken_number, taken_row_of, taken_table
 from keepcompany.errors import CanNot, Stuck
-from keepcompany.joints import away, joined_step, joined_steps, loop_of, outside_of_both, stuck
+from keepcompany.joints import away, joined_steps, loop_of, outside_of_both, stuck
 from keepcompany.ratios import ZERO, dot, minus, plus
 from keepcompany.shapes import rest_of, taken_cells, taken_small
 from keepcompany.stores import bounds_of_cells, half_sum
@@ -37,7 +37,8 @@ def joined_beat(box, cells, other, other_cells):
     own, start = taken_with_cells(box, cells)
     second, beside = taken_with_cells(other, other_cells)
     refuse_stuck(own, second)
-    return joined_step(own, start, second, beside, ZERO)
+    pairs, now, behind = joined_steps(own, start, second, beside, (ZERO,))
+    return pairs[0] + (now, behind)
 
 
 def taken_with_cells(box, cells):
@@ -104,7 +105,8 @@ def joined_gift(box, other, pushes):
     outers = taken_pushes(pushes)
     refuse_stuck(own, second)
     pairs = joined_steps(own, rest_of(own), second, rest_of(second), outers)[0]
-    work = dot(tuple([push for push, _ in pairs]), tuple([answer for _, answer in pairs]))
-    whole = dot(outers, tuple([answer for _, answer in pairs]))
+    answers = tuple([answer for _, answer in pairs])
+    work = dot(tuple([push for push, _ in pairs]), answers)
+    whole = dot(outers, answers)
     # What other is pushed by is box's answer, and it answers what box's push lacks.
     return work, minus(whole, work)

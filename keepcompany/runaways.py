@@ -5,12 +5,13 @@ from keepcompany.checks import (is_row, is_row_of, taken, taken_above, taken_fra
                                 taken_width)
 from keepcompany.errors import NoPaper, TooMany, Unfit
 from keepcompany.grids import whole_solved
-from keepcompany.joints import (away, box_of, held_box, joined_step, loop_of, taken_part)
+from keepcompany.joints import away, box_of, held_box, loop_of, states_between, taken_part
 from keepcompany.nearby import zero_near
 from keepcompany.points import four_shaped, other_of, pair_by, pair_shaped, size_of
 from keepcompany.ratios import (ONE, ZERO, below, fractions, minus, mult, negated, over, plus, plus_rows,
                                 times_row, wholes)
 from keepcompany.rims import keeps
+from keepcompany.rolls import machine_of_both, rolled, units_of
 from keepcompany.shapes import cells_of, polys_of, rest_of, taken_small
 from keepcompany.spans import between_spans, ceiling, spans_of
 from keepcompany.wholepolys import product_of, sign_at
@@ -126,11 +127,6 @@ def pair_loop(box, four):
     return loop_of(own, other_of(taken_pair(four, own)))
 
 
-def one_beat(box, other, state):
-    """What one JOINED BEAT makes of the pair of CELLS state."""
-    return joined_step(box, state[0], other, state[1], ZERO)[2:]
-
-
 def lacks(four, state, last, now):
     """The ROW by which now is not what four tells of the two ahead of it, all 0 if it is."""
     b = four[3]
@@ -141,29 +137,18 @@ def lacks(four, state, last, now):
     return plus_rows(out, times_row(state, size_of(four[2:])))
 
 
-def lacks_from(box, other, four, unit):
-    """What four lacks by the beats from the numbers of unit, CELLS of both."""
-    many = cells_of(box)
-    last = one_beat(box, other, (unit[:many], unit[many:]))
-    if four[3] == ZERO:
-        return lacks(four, unit, unit, last[0] + last[1])
-    now = one_beat(box, other, last)
-    return lacks(four, unit, last[0] + last[1], now[0] + now[1])
-
-
-def first_state(box, other, four):
-    """CELLS of both, not all 0, from which JOINED BEATS go on as four tells."""
-    many = cells_of(box)
-    places = range(many + cells_of(other))
-    units = [tuple([ONE if k == place else ZERO for k in places]) for place in places]
-    columns = [lacks_from(box, other, four, unit) for unit in units]
-    grid = [wholes(tuple([own[k] for own in columns] + [ZERO]))[0] for k in places]
-    for place in places:
+def first_state(machine, four, many):
+    """The many numbers of all CELLS, not all 0, from which beats go on as four tells."""
+    columns = []
+    for unit in units_of(many):
+        last, now = states_between(machine, unit, 2)
+        columns.append(lacks(four, unit, unit, last) if four[3] == ZERO else lacks(four, unit, last, now))
+    grid = [wholes(tuple([own[k] for own in columns] + [ZERO]))[0] for k in range(many)]
+    for place in range(many):
         # Of all the CELLS that lack nothing, some with a 1 at this place.
-        found = whole_solved(grid + [[1 if k == place else 0 for k in places] + [1]])
+        found = whole_solved(grid + [[1 if k == place else 0 for k in range(many)] + [1]])
         if found is not None:
-            row = fractions(found[0], found[1])
-            return row[:many], row[many:]
+            return fractions(found[0], found[1])
     return None
 
 
@@ -172,10 +157,10 @@ def pair_run(box, four, beats):
     own = taken_small(box)
     told, many = taken_pair(four, own), taken_number(beats, 0, MOST_BEATS)
     other = other_of(told)
-    out = [first_state(own, other, told)]
-    for _ in range(many):
-        out.append(one_beat(own, other, out[-1]))
-    return tuple(out)
+    machine = machine_of_both(own, other)
+    start = first_state(machine, told, cells_of(own) + cells_of(other))
+    rows = [start] + states_between(machine, start, many)
+    return tuple([(row[:cells_of(own)], row[cells_of(own):]) for row in rows])
 
 
 def state_shaped(thing, many, others):
@@ -197,7 +182,7 @@ def is_pair_run(box, four, thing):
     rows = [cells + beside for cells, beside in thing]
     if all([number == ZERO for number in rows[0]]):
         return False
-    if any([one_beat(own, other, thing[k - 1]) != thing[k] for k in range(1, len(thing))]):
+    if states_between(machine_of_both(own, other), rows[0], len(rows) - 1) != rows[1:]:
         return False
     ahead = 1 if told[3] == ZERO else 2
     return all([number == ZERO for k in range(ahead, len(rows))
@@ -209,10 +194,12 @@ def row_of_pair(box, four, bound):
     own = taken_small(box)
     told, most = taken_pair(four, own), taken_from(bound, 0)
     other = other_of(told)
-    now, beside = rest_of(own), rest_of(other)
+    machine = machine_of_both(own, other)
+    now = rest_of(own) + rest_of(other)
     pushes = []
     for outer in (ONE,) + (ZERO,) * (LONGEST - 1):
-        push, answer, now, beside = joined_step(own, now, other, beside, outer)
+        beats, now = rolled(machine, now, (outer,))
+        push, answer = beats[0]
         pushes.append(push)
         most = plus(most, mult(push, answer))
         if most[0] < 0:

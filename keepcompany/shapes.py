@@ -4,6 +4,7 @@ from keepcompany.checks import is_row, taken, taken_row, taken_row_of
 from keepcompany.errors import CanNot, TooMany, Unfit
 from keepcompany.polys import parted, scaled, trimmed
 from keepcompany.ratios import ONE, ZERO, dot, minus, mult, over, plus, wholes
+from keepcompany.rolls import machine_of, rolled
 from keepcompany.wholepolys import divisor
 
 MOST_CELLS = 5
@@ -96,12 +97,8 @@ def stepped(box, cells, push):
 
 def moved(box, cells, pushes):
     """The pair of the answers to pushes and the CELLS behind the last one."""
-    answers = []
-    now = cells
-    for push in pushes:
-        answer, now = stepped(box, now, push)
-        answers.append(answer)
-    return tuple(answers), now
+    told, behind = rolled(machine_of(box), cells, pushes)
+    return tuple([own[0] for own in told]), behind
 
 
 def answers_of(box, pushes):

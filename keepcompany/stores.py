@@ -9,6 +9,7 @@ from keepcompany.ratios import (ONE, ZERO, added_up, minus, mult, over, plus, pl
                                 times_row)
 from keepcompany.rims import (curve_of, dips, keeps, parts_of, poly_of_sums, slants_of, stays_above,
                               sums_of_poly)
+from keepcompany.rolls import units_of
 from keepcompany.shapes import cells_of, taken_small
 from keepcompany.squares import squares_of
 
@@ -206,10 +207,9 @@ def bounds_of_cells(table, most):
     """The ROW of what the square of each cell is at most while half the sum is most."""
     if not is_above(table):
         raise CanNot()
-    many = len(table)
-    units = [tuple([ONE if k == place else ZERO for k in range(many)]) for place in range(many)]
     twice = plus(most, most)
-    return tuple([mult(twice, solution(table, unit)[place]) for place, unit in enumerate(units)])
+    return tuple([mult(twice, solution(table, unit)[place])
+                  for place, unit in enumerate(units_of(len(table)))])
 
 
 def cell_bounds(table, most):

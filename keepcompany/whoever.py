@@ -3,9 +3,10 @@
 from keepcompany.checks import (is_number, taken, taken_from, taken_number, taken_row, taken_row_of, taken_table,
                                 taken_table_of)
 from keepcompany.errors import CanNot, Stuck, Unfit
-from keepcompany.joints import box_of, joined_step, part_shaped, stuck
-from keepcompany.ratios import ONE, ZERO, below, mult, negated, over, plus
-from keepcompany.shapes import cells_of, rest_of, stepped, taken_cells, taken_small
+from keepcompany.joints import box_of, part_shaped, stuck
+from keepcompany.ratios import ONE, ZERO, below, mult, negated, over, plus, plus_rows, times_row
+from keepcompany.rolls import held_row, kept_rows, machine_of, machine_of_both, rolled
+from keepcompany.shapes import cells_of, moved, rest_of, stepped, taken_cells, taken_small
 from keepcompany.stores import bounds_of_cells, half_sum
 
 MOST_HELD = 40
@@ -58,11 +59,10 @@ def states_along(box, cells, script):
     states = [cells]
     for beats, part in script:
         held = box_of(part)
-        beside = rest_of(held)
-        for _ in range(beats):
-            push, answer, now, beside = joined_step(box, states[-1], held, beside, ZERO)
-            pairs.append((push, answer))
-            states.append(now)
+        told, makes = machine_of_both(box, held)
+        seen = rolled((told + makes[:len(cells)], makes), states[-1] + rest_of(held), (ZERO,) * beats)[0]
+        pairs.extend([own[:2] for own in seen])
+        states.extend([own[2:] for own in seen])
     return pairs, states
 
 
@@ -118,10 +118,9 @@ def dampers_run(box, cells, amounts):
 def put_in(box, cells, pushes):
     """The greatest of 0 and of the WORK of each beginning of pushes."""
     own = taken_small(box)
-    now, row = taken_cells(cells, own), taken_row(pushes)
+    start, row = taken_cells(cells, own), taken_row(pushes)
     work = most = ZERO
-    for push in row:
-        answer, now = stepped(own, now, push)
+    for push, answer in zip(row, moved(own, start, row)[0]):
         work = plus(work, mult(push, answer))
         most = work if below(most, work) else most
     return most
@@ -139,11 +138,9 @@ def is_within(box, table, cells, pushes, most):
     own, kept = taken_with_table(box, table)
     now, row, more = taken_cells(cells, own), taken_row(pushes), taken_from(most, 0)
     bounds = bounds_of_cells(kept, plus(half_sum(kept, now), more))
-    for push in row:
-        now = stepped(own, now, push)[1]
-        if any([below(bound, mult(cell, cell)) for bound, cell in zip(bounds, now)]):
-            return False
-    return True
+    makes = machine_of(own)[1]
+    return not any([below(bound, mult(cell, cell)) for state in rolled((makes, makes), now, row)[0]
+                    for bound, cell in zip(bounds, state)])
 
 
 def worst_exchange(box, table, cells, scripts):
@@ -167,9 +164,8 @@ def held_still(box, cells, k):
     first = own[0][0]
     if first == ZERO:
         raise CanNot()
-    pushes = []
-    for _ in range(many):
-        push = negated(over(stepped(own, now, ZERO)[0], first))
-        now = stepped(own, now, push)[1]
-        pushes.append(push)
-    return tuple(pushes)
+    # Each push is what takes away the answer that the CELLS alone would give.
+    push = (ZERO,) + times_row(held_row(own), over((-1, 1), first))
+    inner = plus_rows(push, (ZERO,) + times_row(own[1][1:], (-1, 1)))
+    told = rolled(([push], kept_rows(inner, 1, len(now))), now, (ZERO,) * many)[0]
+    return tuple([row[0] for row in told])
