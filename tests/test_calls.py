@@ -5,135 +5,13 @@ import inspect
 import unittest
 
 import keepcompany.errors as errors
-from keepcompany import boxes, curves, keepers, numbers, stores, works
+from keepcompany import (alone, boxes, curves, drawn, keepers, loops, mixtures, numbers, parts, runaways, shares,
+                         stores, whoever, works)
 from keepcompany.errors import Unfit
 
-from helpers import HALF, LESS, O, ONE, TWO, box, lists, row, table
-
-SPRING = box([1, 1], [1, -1])
-FADE = box([1, 0], [1, "-1/2"])
-LAG = box([0, 1], [1, 0])
-RING = box([1, 0, -1], [1, "-6/5", 1])
-RUB = box([2], [1])
-WIDE = box([1, 0, -1], [1, -2, 1])
-KISS = box([3, -4, 2], [1, 0, 0])
-FLAT = table([[2, 1], [1, 1]])
-ODD = table([[1, 2], [2, 1]])
-P, Q = row(6, -9, 0, 3), row(2, -2)
-PUSHES = row(1, "-1/2", 3)
-
-# For each function: its parameters in their order, each with its kind and a value.
-CALLS = {
-    boxes: {
-        "is_box": [("thing", "thing", SPRING)],
-        "is_small": [("box", "box", WIDE)],
-        "made_small": [("box", "box", WIDE)],
-        "rest": [("box", "box", WIDE)],
-        "beat": [("box", "box", WIDE), ("cells", "cells", row(1, 2)), ("push", "fraction", HALF)],
-        "run": [("box", "box", WIDE), ("cells", "cells", row(1, 2)), ("pushes", "row", PUSHES)],
-        "echoes": [("box", "box", WIDE), ("k", "from 1", 4)],
-        "summed": [("box", "box", WIDE), ("other", "box", LAG)],
-        "times": [("box", "box", WIDE), ("f", "fraction", HALF)],
-        "late": [("box", "box", WIDE), ("k", "from 0", 2)],
-        "turned": [("box", "box", WIDE)],
-    },
-    numbers: {
-        "poly_sum": [("p", "poly", P), ("q", "poly", Q)],
-        "poly_times": [("p", "poly", P), ("q", "poly", Q)],
-        "poly_parted": [("p", "poly", P), ("q", "poly", Q)],
-        "value_at": [("p", "poly", P), ("x", "fraction", HALF)],
-        "common_part": [("p", "poly", P), ("q", "poly", Q)],
-        "each_once": [("p", "poly", P)],
-        "by_multiplicity": [("p", "poly", P)],
-        "roots_between": [("p", "poly", P), ("low", "fraction", row(-3)[0]), ("high", "fraction", TWO)],
-        "root_spans": [("p", "poly", P), ("low", "fraction", row(-3)[0]), ("high", "fraction", TWO),
-                       ("width", "above 0", HALF)],
-        "never_below": [("table", "table", FLAT)],
-        "row_below": [("table", "table", ODD)],
-        "solved": [("table", "table", FLAT), ("row", "cells", row(1, 2))],
-        "zeros_outside": [("p", "poly", P)],
-    },
-    works: {
-        "work_of": [("box", "small", SPRING), ("cells", "cells", (ONE,)), ("pushes", "row", PUSHES)],
-        "work_sums": [("box", "small", SPRING), ("cells", "cells", (ONE,)), ("pushes", "row", PUSHES)],
-        "even_table": [("heard", "not empty", PUSHES)],
-        "work_by_table": [("heard", "not empty", PUSHES), ("pushes", "row", PUSHES[:2])],
-        "gives_within": [("box", "small", LAG), ("k", "to 12", 3)],
-        "giving_row": [("box", "small", LAG), ("k", "to 12", 3)],
-        "is_giving_row": [("box", "small", LAG), ("thing", "thing", (ONE, LESS))],
-        "first_gift": [("box", "small", LAG), ("bound", "to 12", 3)],
-        "turned_row": [("box", "small", SPRING), ("pushes", "row", PUSHES)],
-        "work_of_sum": [("box", "small", SPRING), ("other", "small", LAG), ("pushes", "row", PUSHES)],
-    },
-    curves: {
-        "slants": [("box", "small", FADE)],
-        "curve": [("box", "small", FADE)],
-        "curve_at": [("box", "small", FADE), ("c", "cosine", HALF)],
-        "curve_below": [("box", "small", LAG)],
-        "parts_of_curve": [("box", "small", KISS)],
-        "touches": [("box", "small", KISS), ("width", "width", HALF)],
-        "is_loss_free": [("box", "small", RING)],
-        "rim_pair": [("c", "inner cosine", HALF)],
-        "curve_of_sum": [("box", "small", FADE), ("other", "small", LAG)],
-    },
-    stores: {
-        "squares_for": [("sums", "sums", row(2, "-1/2"))],
-        "are_squares": [("sums", "sums", row(2)), ("thing", "thing", ((TWO, (ONE,)),))],
-        "square_gap": [("box", "small", FADE)],
-        "gap_of": [("box", "small", FADE), ("table", "table", ((ONE,),))],
-        "store_by": [("box", "small", FADE), ("square", "table", table([["3/2", "-1/2"], ["-1/2", "1/2"]]))],
-        "store": [("box", "small", FADE)],
-        "is_store": [("box", "small", FADE), ("thing", "thing", ((ONE,),))],
-        "worth": [("table", "table", FLAT), ("cells", "cells", row(1, 2))],
-        "stores_mixed": [("table", "table", FLAT), ("other", "table", ODD), ("far", "share", HALF)],
-        "store_of_turned": [("box", "small", FADE), ("table", "table", ((ONE,),))],
-        "cell_bounds": [("table", "table", FLAT), ("most", "not below 0", ONE)],
-        "loss_free_store": [("box", "small", RING)],
-    },
-    keepers: {
-        "is_keeper": [("box", "small", FADE)],
-        "paper": [("box", "small", FADE)],
-        "is_paper": [("box", "small", LAG), ("thing", "thing", ("curve", LESS))],
-        "why_not": [("box", "small", LAG)],
-        "keeps_turned": [("box", "small", FADE)],
-        "keeps_by_rows": [("box", "small", FADE), ("k", "to 12", 4)],
-        "is_border": [("box", "small", FADE)],
-        "nearest_keeper": [("box", "small", LAG), ("width", "width", HALF)],
-        "echo_bound": [("box", "small", FADE)],
-        "keepers_of": [("boxes", "boxes", (LAG, FADE))],
-    },
-}
-
-NEVER = (None, True, "ab", 1.5, {}, b"ab", object(), {1, 2}, ["a"], [[[[]]]], ((1,),), (1, "1"))
-NO_FRACTION = (5, (), (1,), (2, 4), (0, 2), (1, 0), (1, -2), (1, 2, 3), (True, 1), (1, True), (ONE, ONE))
-NO_ROW = (5, (1, 2), ((2, 4),), (ONE, 5), (ONE, (1, True)), (ONE, (ONE,)))
-NO_TABLE = (5, (ONE,), ((ONE, ONE),), table([[1, 2], [3, 1]]), ((ONE, ONE), (ONE,)), (((2, 4),),))
-NO_BOX = (5, (), ((ONE,),), ((ONE,), (ONE,), (ONE,)), ((O,), (ONE,)), ((ONE,), (TWO,)), ((ONE,), (ONE, O)),
-          ((ONE, ONE), (ONE,)), ((), ()), (((2, 2),), (ONE,)), ((ONE,), ((True, 1),)))
-NO_NUMBER = (-1, ONE, "1", 1.0, None, True, False)
-WRONG = {
-    "fraction": NEVER + NO_FRACTION,
-    "above 0": NEVER + NO_FRACTION + (O, LESS),
-    "cosine": NEVER + NO_FRACTION + (TWO, (-2, 1), (10 ** 6 + 1, 10 ** 6), (-3, 2)),
-    "inner cosine": NEVER + NO_FRACTION + (ONE, LESS, TWO, (-2, 1)),
-    "width": NEVER + NO_FRACTION + (O, LESS, TWO, (1, 10 ** 6 + 1), (10 ** 6 + 1, 10 ** 6)),
-    "share": NEVER + NO_FRACTION + (LESS, TWO, (-1, 10 ** 9), (10 ** 9 + 1, 10 ** 9)),
-    "not below 0": NEVER + NO_FRACTION + (LESS, (-1, 10 ** 9)),
-    "row": NEVER[:4] + NEVER[5:] + NO_ROW,
-    "not empty": NEVER + NO_ROW + ((),),
-    "sums": NEVER + NO_ROW + ((), row(9, 1, 1, 1, 1, 1, 1)),
-    "cells": NEVER[:4] + NEVER[5:] + NO_ROW + ((ONE,) * 3, ()),
-    "poly": NEVER[:4] + NEVER[5:] + NO_ROW + ((O,), (ONE, O)),
-    "table": NEVER + NO_TABLE + ((table([[1] * 5] * 5)),),
-    "box": NEVER + NO_BOX,
-    "small": NEVER + NO_BOX + (WIDE, ((ONE, ONE), (ONE, ONE)), ((ONE, O), (ONE, O))),
-    "boxes": NEVER[:4] + NEVER[5:] + (5, SPRING, (WIDE,), (SPRING, None), (SPRING, WIDE), ((),)),
-    "from 0": NO_NUMBER,
-    "from 1": NO_NUMBER + (0,),
-    "to 12": NO_NUMBER + (13, 10 ** 30),
-}
-# Of any TABLE, or none at all, may be handed in here.
-ANY_SIZE = {"never_below", "row_below", "solved", "worth", "stores_mixed", "cell_bounds"}
+from call_table import (ANY_SIZE, CALLS, DAMPED, FADE, FLAT, FOUR, GIVES_LISTS, GREAT, LAG, NO_SCRIPT, ODD, P, PART, PULL,
+                        PUSH, RUB, RUN, SCRIPT, SOFT, SPRING, STUCK, TWICE, WIDE, WRONG)
+from helpers import HALF, LESS, O, ONE, TWO, box, lists, row
 
 
 def each_call():
@@ -187,8 +65,13 @@ class CallTests(unittest.TestCase):
 
         for function, name, told in each_call():
             with self.subTest(name=name):
-                self.assertTrue(no_lists(function(*[own[2] if own[1] == "thing" else lists(own[2])
-                                                    for own in told])))
+                given = [own[2] if own[1] == "thing" else lists(own[2]) for own in told]
+                found = function(*given)
+                if name in GIVES_LISTS:
+                    self.assertIs(type(found), list)
+                    self.assertIsNot(function(*given), found)
+                    found = tuple(found)
+                self.assertTrue(no_lists(found))
 
     def test_unfit(self):
         for function, name, told in each_call():
@@ -227,7 +110,32 @@ class CallTests(unittest.TestCase):
                      lambda: works.giving_row(SPRING, 13), lambda: curves.touches(SPRING, TWO),
                      lambda: stores.store_of_turned(LAG, ()), lambda: stores.store_by(FADE, ((ONE,),)),
                      lambda: stores.cell_bounds(ODD, LESS), lambda: keepers.nearest_keeper(damp, O),
-                     lambda: keepers.keepers_of((damp, WIDE))):
+                     lambda: keepers.keepers_of((damp, WIDE)), lambda: parts.spring_and_mass(O, LESS),
+                     lambda: parts.in_sector(O, LESS, ONE, 5), lambda: parts.edge_of(ONE, 0),
+                     lambda: loops.joined_run(damp, (), STUCK, (), 41), lambda: loops.outside_of(damp, WIDE),
+                     lambda: loops.pushed_run(damp, (), STUCK, (), (5,)), lambda: loops.joined_gift(damp, STUCK, 5),
+                     lambda: loops.joined_beat(damp, (), STUCK, (ONE,)),
+                     lambda: loops.joined_bound(ODD, row(0, 0), FLAT, (ONE,)),
+                     lambda: alone.marks(PULL, "spring", O), lambda: alone.spans(PULL, "spring", O),
+                     lambda: alone.one_of_kind(PULL, "rod"), lambda: alone.least_amount(FADE, "spring", TWO),
+                     lambda: runaways.near_zero(FADE, PART, TWO), lambda: runaways.pair_run(FADE, FOUR, 3),
+                     lambda: runaways.row_of_pair(TWICE, FOUR, LESS), lambda: whoever.script_run(damp, (), ((1, 1),)),
+                     lambda: whoever.stays(damp, ((ONE,),), (), ((1, ("damper", ONE)),)),
+                     lambda: whoever.dampers_run(damp, (), row(1, -1)), lambda: whoever.bound_for(ODD, row(0, 0), LESS),
+                     lambda: whoever.is_within(FADE, ((O,),), (ONE,), 5, O),
+                     lambda: whoever.worst_exchange(damp, (), (), (((1, ("damper", ONE)),), 5)),
+                     lambda: whoever.held_still(LAG, (ONE,), 41), lambda: drawn.most_drawn(LAG, (ONE,), 9),
+                     lambda: drawn.drawing_row(LAG, (), 1), lambda: drawn.is_drawing_row(LAG, (ONE,), -1, ()),
+                     lambda: drawn.rises(LAG, (ONE,), None), lambda: drawn.drawn_table(LAG, 9),
+                     lambda: drawn.need(LAG, (ONE, ONE), 1), lambda: drawn.needing_row(LAG, (ONE,), 9),
+                     lambda: drawn.come_to(LAG, (ONE,), 9), lambda: drawn.between(LAG, (), (ONE,), 1),
+                     lambda: drawn.never_more(LAG, FLAT, 1), lambda: drawn.drawn_all(LAG, ()),
+                     lambda: shares.with_damper(RUB, (-4, 2)), lambda: shares.inner_share(PUSH, LESS),
+                     lambda: shares.share_papers(RUB, ONE, 2), lambda: shares.pair_of_share(PUSH, LESS),
+                     lambda: shares.share_of_sum(RUB, box([-2], [1]), TWO), lambda: mixtures.mixed(RUB, PUSH, 2),
+                     lambda: mixtures.keep_span(LAG, RUB, TWO), lambda: mixtures.crowd((PUSH, box([1], [1]), WIDE)),
+                     lambda: mixtures.is_keep_span(GREAT, GREAT, O, 1), lambda: mixtures.failing_lot((RUB,), 1),
+                     lambda: mixtures.damper_for_all((GREAT, box([0, 0, 0, 1], [1, 0, 0, 2])), O)):
             with self.assertRaises(Unfit):
                 call()
 
@@ -235,14 +143,27 @@ class CallTests(unittest.TestCase):
         calls = [(boxes.is_box, (), SPRING), (works.is_giving_row, (LAG,), (ONE, LESS)),
                  (stores.are_squares, (row(2),), ((TWO, (ONE,)),)), (stores.is_store, (FADE,), ((ONE,),)),
                  (keepers.is_paper, (FADE,), ("store", ((ONE,),))), (keepers.is_paper, (LAG,), ("curve", LESS)),
-                 (keepers.is_paper, (LAG,), ("damper",))]
-        for function, ahead, thing in calls[:6]:
+                 (parts.is_part, (), ("mass", ONE)), (alone.is_one_part, (PUSH,), ("mass", HALF)),
+                 (runaways.is_pair, (TWICE,), FOUR), (runaways.is_pair_run, (TWICE, FOUR), RUN),
+                 (drawn.is_drawing_row, (DAMPED, (ONE,), 2), row("-1/3", "-1/3")),
+                 (shares.is_share, (RUB, ONE, row(3)[0]), ((), row(2, 0, -3, 0))),
+                 (shares.is_share, (SOFT, HALF, ONE), shares.share_papers(SOFT, HALF, ONE)),
+                 (shares.is_pair_of_share, (PUSH, HALF), row(1, 0, -3, 0))]
+        for function, ahead, thing in calls:
             self.assertIs(function(*ahead, thing), True)
             for wrong in spoiled(thing):
                 with self.subTest(name=function.__name__, wrong=wrong):
                     self.assertIs(function(*ahead, wrong), False)
             for wrong in (None, True, False, 0, 1, -3, "", "store", [], (), ((),), [[]], ((((((((1,),),),),),),),)):
                 self.assertIs(function(*ahead, wrong), False)
+
+    def test_scripts_are_taken_as_they_are(self):
+        self.assertIs(whoever.is_script(()), True)
+        self.assertIs(whoever.is_script(((10 ** 30, PART),) * 50), True)
+        for wrong in spoiled((1, ("damper", ONE))):
+            self.assertIs(whoever.is_script((SCRIPT[0], wrong)), False)
+        for wrong in NO_SCRIPT + (list(SCRIPT), [], None, True, False, 0, "", "spring", [[]], ((),)):
+            self.assertIs(whoever.is_script(wrong), False)
 
 
 def spoiled(thing):

@@ -2,7 +2,8 @@
 
 import unittest
 
-from keepcompany import boxes, curves, keepers, numbers, stores, works
+from keepcompany import (alone, boxes, curves, drawn, keepers, loops, mixtures, numbers, parts, runaways, shares,
+                         stores, whoever, works)
 
 from doc_examples import check_examples, names_of, pairs_of
 
@@ -135,15 +136,176 @@ raises NoPaper()
 raises NoPaper()
 """
 
+PARTS = """
+>>> [part_box(own) for own in (("spring", (1, 2)), ("mass", (3, 1)))], part_store(("mass", (3, 1))), part_store(("damper", (3, 1)))
+([(((1, 2), (1, 2)), ((1, 1), (-1, 1))), (((3, 1), (-3, 1)), ((1, 1), (1, 1)))], (((6, 1),),), ())
+>>> [part_work((own, (1, 2)), ((2, 1), (1, 1))) for own in ("spring", "mass", "damper")]
+[(9, 2), (1, 2), (5, 2)]
+>>> spring_and_mass((1, 1), (2, 1))
+(((3, 1), (-2, 1), (3, 1)), ((1, 1), (0, 1), (-1, 1)))
+>>> parts_box((("spring", (1, 1)), ("damper", (1, 1))))
+(((2, 1), (0, 1)), ((1, 1), (-1, 1)))
+>>> tone(soft, (2, 1), (0, 1)), tone(coil, (1, 1), (0, 1)), edge_of((0, 1), (2, 1))
+(((4, 5), (0, 1)), None, ((3, 5), (-4, 5)))
+>>> [in_sector((0, 1), (2, 1), *own) for own in (((1, 1), (1, 1)), ((1, 1), (3, 2)), ((3, 1), (4, 1)))]
+[True, False, True]
+>>> slow = (((0, 1), (1, 1)), ((1, 1), (0, 1)))
+>>> pair_at(slow, (-1, 1), (1, 1)), pair_at(soft, (2, 1), (0, 1)), pair_at(slow, (0, 1), (1, 1))
+(((15, 4), (1, 4)), None, None)
+>>> pair_at(torn, (-2, 1), (0, 1)) in (((6, 1), (0, 1)), ((0, 1), (2, 3)))
+True
+"""
+
+LOOPS = """
+>>> damp, minus, held, still = (((2, 1),), ((1, 1),)), (((-1, 2),), ((1, 1),)), ((1, 1),), ((0, 1),)
+>>> loop(slow, damp), loop(soft, coil), loop(minus, damp), [is_stuck(minus, own) for own in (damp, coil)]
+(((2, 1), (1, 1)), ((-1, 2), (1, 2), (2, 1)), (), [True, False])
+>>> [runs_away(own, damp) for own in (slow, soft, minus)], outside_of(slow, damp), outside_of(soft, coil)
+([True, False, False], 1, 0)
+>>> joined_beat(slow, held, damp, ())
+((-2, 1), (1, 1), ((-2, 1),), ())
+>>> joined_run(slow, held, damp, (), 3)
+((((-2, 1), (1, 1)), ((4, 1), (-2, 1)), ((-8, 1), (4, 1))), ((-8, 1),), ())
+>>> pushed_run(soft, still, coil, still, ((1, 1), (0, 1)))
+((((1, 2), (1, 2)), ((-3, 8), (-5, 8))), ((-5, 8),), ((-1, 8),))
+>>> joined_gift(soft, coil, ((1, 1), (0, 1))), joined_worth((((1, 1),),), held, (((2, 1),),), ((2, 1),))
+(((31, 64), (1, 64)), (9, 2))
+>>> joined_bound((((1, 1),),), held, (((2, 1),),), ((2, 1),))
+((9, 1),)
+>>> outside_of(minus, damp)
+raises Stuck()
+"""
+
+ALONE = """
+>>> tardy, minus, pull = ((o, one), (one, (-1, 2))), (((-1, 2),), (one,)), ((less, less), (one, less))
+>>> [runs_with(tardy, ("spring", own)) for own in (half, (3, 4))], [runs_with(tardy, ("damper", own)) for own in ((3, 2), two)]
+([False, True], [False, True])
+>>> marks(tardy, "mass", half), spans(tardy, "mass", half), len(marks(tardy, "spring", half)), stuck_amount(tardy) is None
+([], [((0, 1), None)], 1, True)
+>>> kinds_that_run(tardy), kinds_that_run(minus), kinds_that_run(fade)
+(('damper', 'mass', 'spring'), ('mass', 'spring'), ())
+>>> stuck_amount(minus), is_quiet(minus, ("damper", one)), is_quiet(minus, ("spring", two)), one_of_kind(minus, "damper") is None
+((2, 1), True, False, True)
+>>> is_one_part(minus, ("mass", one)), is_one_part(minus, ("damper", one))
+(True, False)
+>>> part_for_times(two, ("spring", one)), marks(ring, "spring", one)
+(('spring', (1, 2)), [])
+>>> one_part(fade)
+raises NoPaper()
+>>> marks(pull, "spring", one)
+raises CanNot()
+"""
+
+RUNAWAYS = """
+>>> twice, four = ((o, o, one), (one, o, o)), ((10, 3), (10, 3), o, two)
+>>> is_pair(twice, four), is_pair(twice, four[:3] + ((3, 1),)), is_pair(tardy, ((15, 2), o, (-2, 1), o)), is_pair(fade, four)
+(True, False, True, False)
+>>> growth(four), pair_loop(twice, four)
+((4, 1), ((20, 3), (0, 1), (17, 3), (0, 1), (1, 1)))
+>>> rows = ((((-5, 1), o), (one, o)), ((o, (-5, 1)), (o, one)), (((20, 1), o), ((-4, 1), o)))
+>>> is_pair_run(twice, four, rows), is_pair_run(twice, four, rows[1:]), is_pair_run(twice, four, rows[:1] + rows[2:])
+(True, True, False)
+>>> passes(rows, (10, 1)), passes(rows, (20, 1)) is None, len(pair_run(tardy, ((15, 2), o, (-2, 1), o), 3))
+(2, True, 4)
+>>> is_giving_row(twice, row_of_pair(twice, four, (5, 1))), is_pair(twice, pair_near(twice, o, two, 3)), is_pair(minus, pair(minus))
+(True, True, True)
+>>> pair_for_times(two, four)
+((5, 3), (5, 3), (0, 1), (2, 1))
+>>> pair(fade)
+raises NoPaper()
+"""
+
+WHOEVER = """
+>>> spring, deep = (((1, 1), (1, 1)), ((1, 1), (-1, 1))), (((2, 1),),)
+>>> third, like = (2, ("damper", (1, 3))), (1, ("spring", (1, 1)))
+>>> script_run(spring, ((1, 1),), (third, like))
+((((-1, 2), (3, 2)), ((-1, 4), (3, 4)), ((-1, 4), (1, 4))), ((0, 1),))
+>>> script_worths(spring, deep, ((1, 1),), (third, like)), stays(spring, deep, ((1, 1),), (third, like)), is_script((third, like)), is_script(((0, third[1]),))
+(((1, 1), (1, 4), (1, 16), (0, 1)), True, True, False)
+>>> dampers_run(spring, ((1, 1),), ((0, 1), (1, 1))), put_in(spring, ((0, 1),), ((1, 1), (0, 1), (-1, 1))), put_in(spring, ((1, 1),), ())
+(((((0, 1), (2, 1)), ((-1, 1), (1, 1))), ((0, 1),)), (1, 1), (0, 1))
+>>> bound_for(deep, ((1, 1),), (1, 1)), is_within(spring, deep, ((1, 1),), ((2, 1), (-5, 1)), (8, 1)), is_within(spring, deep, ((1, 1),), ((2, 1),), (7, 1))
+(((2, 1),), True, False)
+>>> worst_exchange(spring, deep, ((1, 1),), ((third,), (like,), ())), held_still(spring, ((1, 1),), 2), bound_for((), (), (3, 1))
+(2, ((-2, 1), (2, 1)), ())
+>>> script_run((((-1, 1),), ((1, 1),)), (), ((1, ("damper", (1, 1))),))
+raises Stuck()
+"""
+
+DRAWN = """
+>>> damped, ring = ((two, none), (one, less)), ((one, none, less), (one, none, one))
+>>> most_drawn(spring, ((3, 1),), 1), rises(damped, (one,), 3), drawn_table(damped, 2)
+((9, 1), ((1, 2), (2, 3), (3, 4)), (((4, 3),),))
+>>> drawing_row(damped, (one,), 2), [is_drawing_row(damped, (one,), 1, own) for own in (((-1, 2),), (less,), [(-1, 2)])]
+(((-1, 3), (-1, 3)), [True, False, False])
+>>> [need(damped, (one,), k) for k in (0, 1, 2, 3)], needing_row(damped, (one,), 2)
+([None, (2, 1), (3, 2), (4, 3)], ((1, 2), (1, 2)))
+>>> need(ring, (none, one), 1), come_to(ring, (none, one), 1), need(ring, (none, one), 2), come_to(ring, (none, one), 2)
+(None, None, (1, 1), ((1, 1), (0, 1)))
+>>> between(damped, ((two,),), (one,), 2), never_more(damped, ((two,),), 8), never_more(damped, ((one,),), 2)
+(((2, 3), (1, 1), (3, 2)), True, False)
+>>> drawn_all(ring, (one, two)), work_of(ring, (one, two), drawn_all(ring, (one, two)))
+(((2, 1), (1, 1)), (-5, 1))
+>>> drawn_all(damped, (one,))
+raises CanNot()
+>>> most_drawn(lag, (one,), 1)
+raises CanNot()
+"""
+
+SHARES = """
+>>> with_damper(slow, one), with_damper(rub, less), least_damper(spring, half)
+((((1, 1), (1, 1)), ((1, 1), (0, 1))), (((1, 1),), ((1, 1),)), ((0, 1), (0, 1)))
+>>> grow = ((one, o), (one, (-2, 1)))
+>>> share(grow, half), least_damper(grow, half), share_of_sum(rub, grow, half), safe_from(slow, half), safe_from(ramp, half)
+(None, None, None, None, ((0, 1), (0, 1)))
+>>> inner_share(slow, half), inner_share(grow, one), inner_share(push, two)
+((((0, 1), (1, 1)), ((1, 1), (1, 2))), (((1, 2), (0, 1)), ((1, 1), (-1, 1))), (((1, 1),), ((1, 1),)))
+>>> [keeps_with_share(push, own) for own in (o, half, one, two)], [keeps_with_share(grow, own) for own in (half, one)]
+([False, False, False, True], [False, True])
+>>> [is_share(rub, own, (3, 1), ((), (two, o, (-3, 1), o))) for own in (one, two)], is_share(soft, half, one, share_papers(soft, half, one))
+([True, True], True)
+>>> [is_pair_of_share(push, half, own) for own in ((one, o, (-3, 1), o), (two, o, (-3, 1), o), pair_of_share(push, half))]
+[True, False, True]
+>>> inner_share(push, one)
+raises Stuck()
+>>> share_papers(rub, one, two)
+raises CanNot()
+"""
+
+MIXTURES = """
+>>> back, lag3 = ((o, less), (one, o)), ((o, (3, 1)), (one, o))
+>>> mixed(rub, slow, two), mixed(rub, slow, o) == rub, mixed(rub, push, one), crowd((rub, slow, slow))
+((((2, 1), (2, 1)), ((1, 1), (0, 1))), True, (((1, 1),), ((1, 1),)), (((2, 1), (2, 1)), ((1, 1), (0, 1))))
+>>> keep_span(rub, spring, half), [is_keep_span(rub, slow, own, (3, 1)) for own in (less, o, two, (5, 2))], is_keep_span(rub, slow, one, two)
+(None, [False, True, True, False], False)
+>>> is_keep_span(spring, slow, o, (1, 1000)), is_keep_span(rub, push, two, (3, 1))
+(True, True)
+>>> lots_that_keep((rub, slow, slow)), least_lots((rub, slow, slow)), pairs_that_keep((rub, slow, slow))
+([(0,), (0, 1), (0, 1, 2), (0, 2)], [(0,)], [(0, 1), (0, 2)])
+>>> lots_that_keep((slow, back, rub)), least_lots((slow, back, rub)), spoilers((rub, lag3, push)), spoilers((rub, slow))
+([(0, 1), (0, 1, 2), (0, 2), (1, 2), (2,)], [(0, 1), (2,)], (1,), ())
+>>> damper_for_all((rub, soft), half), damper_for_all((rub, grow), half), failing_lot((rub, push), o), failing_lot((slow, slow), (3, 2))
+(((0, 1), (0, 1)), None, (1,), (0, 1))
+>>> failing_lot((slow, slow), two)
+raises NoPaper()
+>>> keep_span(slow, rub, one)
+raises CanNot()
+>>> crowd((slow, back))
+raises CanNot()
+"""
+
 # In the order of the document: a name is that of the nearest example ahead.
 SECTIONS = [("boxes", BOXES), ("numbers", NUMBERS), ("works", WORKS), ("curves", CURVES),
-            ("stores", STORES), ("keepers", KEEPERS)]
+            ("stores", STORES), ("keepers", KEEPERS), ("parts", PARTS), ("loops", LOOPS),
+            ("alone", ALONE), ("runaways", RUNAWAYS), ("whoever", WHOEVER), ("drawn", DRAWN),
+            ("shares", SHARES), ("mixtures", MIXTURES)]
 
 
 class ExampleTests(unittest.TestCase):
 
     def test_every_example(self):
-        names = names_of([boxes, curves, keepers, numbers, stores, works])
+        names = names_of([alone, boxes, curves, drawn, keepers, loops, mixtures, numbers, parts, runaways, shares,
+                          stores, whoever, works])
         for section, text in SECTIONS:
             with self.subTest(section=section):
                 check_examples(self, text, names)
