@@ -72,7 +72,7 @@ def pair_of_giver(box):
     while found is None:
         across, up = zero_near(numbers, (1, 1 << deep))
         found = near_by(box, across, up, deep)
-        deep *= 2
+        deep += deep // 2 + 1
     return found
 
 

@@ -284,6 +284,8 @@ class RunawayTests(unittest.TestCase):
         for own in givers(chance, 20):
             four = pair(own)
             other = spring_and_mass(four[0], four[1])
+            if max(len(str(four)), len(str(own))) > 400:
+                continue
             for bound in (O, (5, 1), (10 ** 9, 1), (BIG, 1)):
                 found = first_below(own, other, value(bound))
                 seen[found is None] += 1
