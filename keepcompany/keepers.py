@@ -123,17 +123,23 @@ def damper_enough(box):
     return None if damped(box, (amount, 1)) is None else amount
 
 
+def widths_wanted(box, width):
+    """How many widths of damper make box, a GIVER, a KEEPER, at the least; None if none do."""
+    enough = damper_enough(box)
+    if enough is None:
+        return None
+    return first_above(0, enough * width[1] // width[0] + 1,
+                       lambda k: damped(box, mult(width, (k, 1))) is not None)
+
+
 def nearest_keeper(box, width):
     """box, or box and a damper such that with width less of it it is no KEEPER."""
     own, most = taken_small(box), taken_width(width)
     if keeps(own):
         return own
-    enough = damper_enough(own)
-    if enough is None:
+    many = widths_wanted(own, most)
+    if many is None:
         raise NoPaper()
-    # Of the dampers 1, 2, .. times width the first that does.
-    many = first_above(0, enough * most[1] // most[0] + 1,
-                       lambda k: damped(own, mult(most, (k, 1))) is not None)
     return damped(own, mult(most, (many, 1)))
 
 

@@ -3,7 +3,7 @@
 from keepcompany.boxes import summed
 from keepcompany.checks import taken_fraction, taken_from, taken_width
 from keepcompany.errors import CanNot, NoPaper, Stuck
-from keepcompany.keepers import damped, damper_enough
+from keepcompany.keepers import damper_enough, widths_wanted
 from keepcompany.points import pair_shaped
 from keepcompany.ratios import ONE, ZERO, mult, negated, over, plus, plus_rows, times_row
 from keepcompany.rims import keeps, with_bottoms
@@ -31,10 +31,14 @@ def is_share_of(box, e):
     return keeps_damped(box, negated(e))
 
 
+def bracket_at(width, many):
+    """The pair of so many widths less one, and so many."""
+    return mult(width, (many - 1, 1)), mult(width, (many, 1))
+
+
 def bracket(width, low, high, holds):
     """The pair of the widths, so many of them, next to the least number at which holds is so."""
-    many = first_above(low, high, holds)
-    return mult(width, (many - 1, 1)), mult(width, (many, 1))
+    return bracket_at(width, first_above(low, high, holds))
 
 
 def steps_to(e, width):
@@ -96,11 +100,8 @@ def least_damper(box, width):
     own, most = taken_small(box), taken_width(width)
     if keeps(own):
         return NOUGHTS
-    enough = damper_enough(own)
-    if enough is None:
-        return None
-    return bracket(most, 0, steps_to((enough, 1), most),
-                   lambda k: damped(own, mult(most, (k, 1))) is not None)
+    many = widths_wanted(own, most)
+    return None if many is None else bracket_at(most, many)
 
 
 def lead_with(box, e):
