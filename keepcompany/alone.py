@@ -111,10 +111,6 @@ def amount_that_runs(box, kind):
 
 def part_that_runs(box):
     """A PART with which box, a GIVER, runs away."""
-    if not curve_of(box):
-        # It runs with each damper with which it is not STUCK.
-        lead = box[0][0]
-        return "damper", ONE if lead != (-1, 1) else (2, 1)
     for kind in KINDS:
         amount = amount_that_runs(box, kind)
         if amount is not None:

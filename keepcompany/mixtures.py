@@ -7,7 +7,8 @@ from keepcompany.polys import added, multiplied, scaled
 from keepcompany.ratios import ONE, ZERO, below, mult
 from keepcompany.rims import keeps
 from keepcompany.shapes import MOST_CELLS, cells_of, made, made_bounded, polys_of, taken_small
-from keepcompany.shares import FAR, NOUGHTS, bracket, keeps_damped, steps_to
+from keepcompany.shares import FAR, NOUGHTS, bracket, bracket_at, keeps_damped, steps_to
+from keepcompany.steps import first_above
 
 MOST_BOXES = 6
 # What answers nothing: no BOX, but what a crowd may come to.
@@ -150,17 +151,24 @@ def spoilers(boxes):
     return tuple([k for k, one in enumerate(others) if keeps_damped(one, ZERO)])
 
 
+def widths_to_keep(box, width, many):
+    """The least number of widths of damper, above many, with which box keeps; None if none do."""
+    enough = damper_enough(box)
+    if enough is None:
+        return None
+    return first_above(many, steps_to((enough, 1), width), lambda k: keeps_damped(box, mult(width, (k, 1))))
+
+
 def damper_for_all(boxes, width):
     """A BRACKET of the least damper with which the crowd of each lot keeps; None if none does."""
     own, most = taken_boxes(boxes), taken_width(width)
-    wanting = [one for _, one in crowds_of_lots(own) if not keeps_damped(one, ZERO)]
-    if not wanting:
-        return NOUGHTS
-    enough = [damper_enough(one) for one in wanting]
-    if None in enough:
-        return None
-    return bracket(most, 0, steps_to((max(enough), 1), most),
-                   lambda k: all([keeps_damped(one, mult(most, (k, 1))) for one in wanting]))
+    many = 0
+    for _, one in crowds_of_lots(own):
+        if not keeps_damped(one, mult(most, (many, 1))):
+            many = widths_to_keep(one, most, many)
+            if many is None:
+                return None
+    return bracket_at(most, many) if many > 0 else NOUGHTS
 
 
 def failing_lot(boxes, e):

@@ -143,7 +143,11 @@ class AloneTests(unittest.TestCase):
                  (damper(-2), "damper", ["1/2"], []), (damper(-2), "spring", ["1/2"], [0, 1]),
                  (damper(-2), "mass", ["1/2"], [0, 1]), (KISSED, "damper", [4], [0, 1]),
                  (box([0, 0, 0, 0, 1], [1, 0, 0, 0, 0]), "damper", [1], [1]), (spring(-1), "damper", [1], [0, 1]),
-                 (box([0, 1], [1, -3]), "damper", [2, 4], [0, 2]), (box([1, 0], [1, -2]), "damper", [1], [0])]
+                 (box([0, 1], [1, -3]), "damper", [2, 4], [0, 2]), (box([1, 0], [1, -2]), "damper", [1], [0]),
+                 # Alike upside down: in the last ones two pairs of zeros meet on the rim, at i and -i.
+                 (box([0, 0, 1, 0, 0], [1, 0, 1, 0, 1]), "damper", [1], [1]),
+                 (box([0, 0, "1/2", 0, 0], [1, 0, 1, 0, 1]), "damper", [2], [1]),
+                 (box([0, 0, -1, 0, 0], [1, 0, 4, 0, 1]), "damper", [2, 6], [0, 2])]
         for own, kind, places, runs in known:
             for width in (ONE, (1, 10), (1, 10 ** 6)):
                 told = marks(own, kind, width)

@@ -190,6 +190,12 @@ class PartTests(unittest.TestCase):
             p, q = solved_by_hand(edge, Point(1, 0).over(edge), w)
             self.assertEqual(1 + value(own[0][0]) * (p + q), 0)
 
+    def test_no_pairs_at_zeros(self):
+        for own, a, b in ((box([1, 2], [1, 0]), "-2", 0), (box([-1, 2], [1, 0]), 2, 0), (box([1, 0, 4], [1, 0, 0]), 0, 2),
+                          (box([-1, 0, -4], [1, 0, 0]), 0, 2), (box([1, 0], [1, -2]), 2, 0), (box([0, -1], [1, 2]), -2, 0),
+                          (box([1, 0, 0], [1, -2, 2]), 1, 1), (box([0, 0, -1], [1, -2, 2]), 1, 1)):
+            self.assertIsNone(pair_at(own, pair(Fraction(a)), pair(b)))
+
     def test_no_pairs_within_and_stuck_ones(self):
         twice = box([0, 0, 1], [1, 0, 0])
         self.assertEqual(pair_at(twice, O, TWO), ((10, 3), (10, 3)))
