@@ -110,7 +110,7 @@ def amount_that_runs(box, kind):
 
 
 def part_that_runs(box):
-    """A PART with which box, a GIVER, runs away."""
+    """A PART with which box runs away; NoPaper if it is a KEEPER."""
     for kind in KINDS:
         amount = amount_that_runs(box, kind)
         if amount is not None:
@@ -120,10 +120,7 @@ def part_that_runs(box):
 
 def one_part(box):
     """A PART with which box runs away."""
-    own = taken_small(box)
-    if keeps(own):
-        raise NoPaper()
-    return part_that_runs(own)
+    return part_that_runs(taken_small(box))
 
 
 def is_one_part(box, thing):

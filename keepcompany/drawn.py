@@ -154,6 +154,5 @@ def drawn_all(box, cells):
     start = taken_cells(cells, own)
     if curve_of(own) or not keeps(own):
         raise CanNot()
-    many = cells_of(own)
     # Each push is just what keeps inner at 0.
-    return tuple([dot(own[1][1 + k:], start[:many - k]) for k in range(many)])
+    return tuple([dot(own[1][1 + k:], start) for k in range(cells_of(own))])

@@ -10,7 +10,6 @@ from keepcompany.nearby import zero_near
 from keepcompany.points import four_shaped, other_of, pair_by, pair_shaped, size_of
 from keepcompany.ratios import (ONE, ZERO, below, fractions, minus, mult, negated, over, plus, plus_rows,
                                 times_row, wholes)
-from keepcompany.rims import keeps
 from keepcompany.rolls import machine_of_both, rolled, units_of
 from keepcompany.shapes import cells_of, polys_of, rest_of, taken_small
 from keepcompany.spans import between_spans, ceiling, spans_of
@@ -60,8 +59,8 @@ def other_that_runs(box):
         more = mult(more, (1, 2))
 
 
-def pair_of_giver(box):
-    """A PAIR of box, a GIVER."""
+def pair_found(box):
+    """A PAIR of box; NoPaper if it is a KEEPER."""
     found = real_pair(box)
     if found is not None:
         return found
@@ -91,10 +90,7 @@ def near_by(box, across, up, deep):
 
 def pair(box):
     """A PAIR of box."""
-    own = taken_small(box)
-    if keeps(own):
-        raise NoPaper()
-    return pair_of_giver(own)
+    return pair_found(taken_small(box))
 
 
 def is_pair(box, thing):
@@ -144,12 +140,10 @@ def first_state(machine, four, many):
         last, now = states_between(machine, unit, 2)
         columns.append(lacks(four, unit, unit, last) if four[3] == ZERO else lacks(four, unit, last, now))
     grid = [wholes(tuple([own[k] for own in columns] + [ZERO]))[0] for k in range(many)]
-    for place in range(many):
-        # Of all the CELLS that lack nothing, some with a 1 at this place.
-        found = whole_solved(grid + [[1 if k == place else 0 for k in range(many)] + [1]])
-        if found is not None:
-            return fractions(found[0], found[1])
-    return None
+    # The first number is 1: with a 0 there all would be 0, for CELLS that grow
+    # by the same part in each beat are all made of their first one.
+    tops, bottom = whole_solved(grid + [[1] + [0] * (many - 1) + [1]])
+    return fractions(tops, bottom)
 
 
 def pair_run(box, four, beats):

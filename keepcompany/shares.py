@@ -2,12 +2,12 @@
 
 from keepcompany.boxes import summed
 from keepcompany.checks import taken_fraction, taken_from, taken_width
-from keepcompany.errors import CanNot, NoPaper, Stuck
+from keepcompany.errors import CanNot, Stuck
 from keepcompany.keepers import damper_enough, widths_wanted
 from keepcompany.points import pair_shaped
 from keepcompany.ratios import ONE, ZERO, mult, negated, over, plus, plus_rows, times_row
 from keepcompany.rims import keeps, with_bottoms
-from keepcompany.runaways import pair_of_giver
+from keepcompany.runaways import pair_found
 from keepcompany.shapes import taken_small
 from keepcompany.steps import first_above
 from keepcompany.stores import store_found, store_shaped
@@ -80,7 +80,7 @@ def share_papers(box, low, high):
         raise CanNot()
     ahead, behind = with_bottoms(own, negated(start)), with_bottoms(own, negated(end))
     stored = () if answers_nothing(ahead) else store_found(ahead)
-    return stored, pair_of_giver(behind)
+    return stored, pair_found(behind)
 
 
 def is_share(box, low, high, thing):
@@ -150,10 +150,7 @@ def pair_of_share(box, e):
     own, amount = taken_small(box), taken_from(e, 0)
     if lead_with(own, amount) == ZERO:
         raise Stuck()
-    inner = inner_of(own, amount)
-    if keeps(inner):
-        raise NoPaper()
-    return pair_of_giver(inner)
+    return pair_found(inner_of(own, amount))
 
 
 def is_pair_of_share(box, e, thing):

@@ -41,7 +41,7 @@ def outgrows(p, k):
 def ceiling(p):
     """A number, a power of 2, above the size of each zero of p, real or not."""
     most = max([abs(own) for own in p]) // abs(p[-1])
-    return 1 << first_above(-1, most.bit_length() + 1, lambda k: k >= 0 and outgrows(p, k))
+    return 1 << first_above(-1, most.bit_length() + 1, lambda k: outgrows(p, k))
 
 
 def between_spans(spans, low, high):

@@ -252,6 +252,8 @@ class MixtureTests(unittest.TestCase):
         self.assertEqual(least_lots((LAG, BACK)), [(0, 1)])
         self.assertEqual(lots_that_keep((LAG, BACK, RUB)), [(0, 1), (0, 1, 2), (0, 2), (1, 2), (2,)])
         self.assertEqual(pairs_that_keep((RUB,)), [])
+        half = box([0, "1/2"], [1, 0])
+        self.assertEqual(least_lots((LAG, BACK, half, half)), [(0, 1), (1, 2, 3)])
         self.assertEqual(spoilers((PUSH,)), ())
         self.assertEqual(spoilers((RUB, box([0, 3], [1, 0]), PUSH)), (1,))
         self.assertEqual(spoilers((RUB, RUB, PUSH)), ())
@@ -293,6 +295,13 @@ class MixtureTests(unittest.TestCase):
             with self.assertRaises(TooMany):
                 lots_that_keep(boxes)
             self.assertEqual(crowd(boxes), three[1])
+        # Just 5 cells are not too many.
+        just = (box([2, 0, 0], [1, 0, "1/2"]), three[0])
+        self.assertEqual(len(crowd(just)[0]), 6)
+        self.assertEqual(pairs_that_keep(just), [(0, 1)])
+        self.assertEqual(lots_that_keep(just), [(0,), (0, 1), (1,)])
+        self.assertEqual(spoilers(just), ())
+        self.assertEqual(damper_for_all(just, ONE), (O, O))
         # Each two do well, all together are too wide.
         ones = tuple(box([1, 0, 0], [1, 0, own]) for own in ("1/2", "1/3", "1/5"))
         self.assertEqual(len(pairs_that_keep(ones)), 3)

@@ -298,6 +298,17 @@ class RunawayTests(unittest.TestCase):
                 self.assertIs(is_giving_row(own, told), True)
         self.assertTrue(min(seen) > 3, seen)
         self.assertTrue(work_by_hand(TWICE, row_of_pair(TWICE, FOUR, (20, 3))) < Fraction(-20, 3))
+        # Of the first 60 beats the last one counts, too, and no later one.
+        other, works = spring_and_mass(REAL[0], REAL[1]), []
+        pairs = pushed_run(TARDY, (O,), other, (O,), (ONE,) + (O,) * 39)
+        pairs = pairs[0] + pushed_run(TARDY, pairs[1], other, pairs[2], (O,) * 25)[0]
+        for push, answer in pairs:
+            works.append((works[-1] if works else 0) + value(push) * value(answer))
+        self.assertTrue(all(works[k] > works[k + 1] for k in range(50, 62)))
+        self.assertEqual(len(row_of_pair(TARDY, REAL, fraction(-works[58]))), 60)
+        self.assertEqual(len(row_of_pair(TARDY, REAL, fraction(-works[57]))), 59)
+        with self.assertRaises(TooMany):
+            row_of_pair(TARDY, REAL, fraction(-works[59]))
         for bound in (LESS, (-1, BIG), 5, (0, 2)):
             with self.assertRaises(Unfit):
                 row_of_pair(TWICE, FOUR, bound)
