@@ -201,6 +201,10 @@ class AloneTests(unittest.TestCase):
                 ran = tuple(own_kind for own_kind in KINDS if one_of_kind(own, own_kind) is not None)
                 self.assertEqual(kinds_that_run(own), ran)
                 self.assertIn(kind, ran)
+        for own, kinds in ((box(["3/2", "-1/2", "1/2"], [1, 1, 0]), ("mass",)), (box([1, "-1/2", 1], [1, "-3/2", 1]), ("spring",)),
+                           (damper(-1), ("mass", "spring")), (LAG, KINDS)):
+            self.assertEqual(kinds_that_run(own), kinds)
+            self.assertEqual([kind for kind in KINDS if one_of_kind(own, kind) is not None], list(kinds))
         for own in PULLS:
             for amount in (HALF, TWO, (BIG, 1)):
                 self.assertIs(runs_with(own, ("damper", amount)), value(amount) * value(own[0][0]) != -1)

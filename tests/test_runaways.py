@@ -28,7 +28,9 @@ PULLS = [spring(-1), mass("-2/3"), summed(spring(-2), mass(-1)), times(turned(su
 # GIVERS that give at no real point, so that their PAIRS have b above 0.
 TURNING = [TWICE, box([1, 0, 0, 0, "3/2"], [1, 0, 0, 0, 0]), less_damper(box([3, -4, 2], [1, 0, 0]), Fraction(1, 5)),
            less_damper(box([3, -4, 2], [1, 0, 0]), Fraction(1, 10 ** 30)), box([1, 0, 2], [1, 0, "1/4"]),
-           less_damper(summed(box([3, -4, 2], [1, 0, 0]), mass(2)), Fraction(1, 10 ** 9))]
+           less_damper(summed(box([3, -4, 2], [1, 0, 0]), mass(2)), Fraction(1, 10 ** 9)),
+           # With masses alone, with springs alone they run away.
+           box(["3/2", "-1/2", "1/2"], [1, 1, 0]), box([1, "-1/2", 1], [1, "-3/2", 1])]
 
 
 def givers(chance, many):
