@@ -36,6 +36,12 @@ def amount_stuck(box):
     return None if lead[0] >= 0 else over((-1, 1), lead)
 
 
+def holds_stuck(box, span):
+    """Whether the amount at which box is STUCK lies in span, its ends with it."""
+    held = amount_stuck(box)
+    return held is not None and not below(held, span[0]) and not below(span[1], held)
+
+
 def stretches(box, kind, width):
     """The pair of the MARKS and of whether the kind runs ahead of, between and behind them.
 
@@ -48,9 +54,7 @@ def stretches(box, kind, width):
     top = (ceiling(numbers), 1)
     found = spans_of(numbers, ZERO, top, width)
     counts = [outside_of_both(box, box_of((kind, place))) for place in between_spans(found, ZERO, top)]
-    held = amount_stuck(box)
-    kept = [k for k, (low, high) in enumerate(found) if counts[k] != counts[k + 1]
-            or held is not None and not below(held, low) and not below(high, held)]
+    kept = [k for k, span in enumerate(found) if counts[k] != counts[k + 1] or holds_stuck(box, span)]
     return [found[k] for k in kept], [counts[k] > 0 for k in [0] + [k + 1 for k in kept]]
 
 

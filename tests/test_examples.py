@@ -1,5 +1,6 @@
 """The examples of the document, each as it stands there."""
 
+import pathlib
 import unittest
 
 from keepcompany import (alone, boxes, curves, drawn, keepers, loops, mixtures, numbers, parts, runaways, shares,
@@ -309,6 +310,13 @@ class ExampleTests(unittest.TestCase):
         for section, text in SECTIONS:
             with self.subTest(section=section):
                 check_examples(self, text, names)
+
+    def test_the_examples_of_the_readme(self):
+        readme = pathlib.Path(__file__).resolve().parent.parent / "README.md"
+        rows = readme.read_text().partition("## How to use it")[2].partition("## How to run")[0].split("\n")
+        shown = [own for own in rows if own.startswith("    ")]
+        self.assertTrue(len(shown) > 8)
+        check_examples(self, "\n".join(shown), {})
 
     def test_the_runner_sees_what_differs(self):
         self.assertEqual(pairs_of(">>> a = 1\n>>> a\n1"), [["a = 1", None], ["a", "1"]])
