@@ -35,21 +35,26 @@ def paper(box):
     return ("store", store_found(own)) if found is None else found
 
 
-def is_paper(box, thing):
-    """Whether thing is a PAPER of box."""
-    own = taken_small(box)
+def refuses(box, thing):
+    """Whether thing is a PAPER of box whose word is "curve" or "damper"."""
     if not isinstance(thing, tuple) or len(thing) not in (1, 2):
         return False
     if len(thing) == 1:
-        return thing[0] == "damper" and fails_damper(own)
+        return thing[0] == "damper" and fails_damper(box)
     word, told = thing
-    if word == "store":
-        return store_shaped(own, told)
     if word != "curve" or not is_fraction(told):
         return False
     if below(told, LOW) or below(HIGH, told):
         return False
-    return valued(curve_of(own), told)[0] < 0
+    return valued(curve_of(box), told)[0] < 0
+
+
+def is_paper(box, thing):
+    """Whether thing is a PAPER of box."""
+    own = taken_small(box)
+    if isinstance(thing, tuple) and len(thing) == 2 and thing[0] == "store":
+        return store_shaped(own, thing[1])
+    return refuses(own, thing)
 
 
 def why_not(box):
@@ -88,17 +93,21 @@ def without_shared(p, q):
     return parted(p, shared)[0], parted(q, shared)[0]
 
 
-def is_border(box):
+def spares_none(box):
     """Whether box is a KEEPER and no damper can be taken off it."""
-    own = taken_small(box)
-    if not keeps(own):
+    if not keeps(box):
         return False
-    shape = curve_of(own)
+    shape = curve_of(box)
     if not shape:
         return True
     # A damper takes away as much as the size of bottoms: what the CURVE has
     # above 0 bears a little of that but where it is 0 more often.
-    return touches_rim(without_shared(shape, size_curve(own))[0])
+    return touches_rim(without_shared(shape, size_curve(box))[0])
+
+
+def is_border(box):
+    """Whether box is a KEEPER and has no SHARE above 0."""
+    return spares_none(taken_small(box))
 
 
 def damped(box, e):

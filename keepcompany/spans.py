@@ -1,6 +1,6 @@
 """The roots of a polynomial of whole numbers, each in a span of its own."""
 
-from keepcompany.ratios import below, middle, minus
+from keepcompany.ratios import below, middle, minus, reduced
 from keepcompany.steps import first_above
 from keepcompany.wholepolys import chain_of, changes_at, sign_at, simple, slope
 
@@ -75,3 +75,16 @@ def narrowed(p, start, end, width):
         else:
             high = place
     return (low, high)
+
+
+def fraction_roots(p, low, high):
+    """The list of the roots of p strictly between low and high that are FRACTIONS."""
+    one = simple(p)
+    lead = one[-1]
+    out = []
+    for start, end in spans_of(one, low, high, (1, 2 * lead)):
+        # Such a root times lead is a whole number, and no span holds two.
+        place = start if start == end else reduced(start[0] * lead // start[1] + 1, lead)
+        if sign_at(one, place) == 0 and not below(end, place):
+            out.append(place)
+    return out

@@ -1,7 +1,7 @@
 """What test_calls.py calls: each function with a value for each argument, and what is wrong there."""
 
-from keepcompany import (alone, boxes, curves, drawn, keepers, loops, mixtures, numbers, parts, runaways, shares,
-                         stores, whoever, works)
+from keepcompany import (alone, boxes, curves, desk, drawn, holes, judge, keepers, logs, loops, mixtures, numbers,
+                         parts, runaways, shares, stores, takings, texts, told, whoever, works)
 
 from helpers import HALF, LESS, O, ONE, TWO, box, row, table
 
@@ -28,6 +28,14 @@ SOFT = box([1, "1/2"], [1, "1/3"])
 PULL = box([-1, -1], [1, -1])
 STUCK = box([1], [1])
 GREAT = box([1, 0, 0, 1], [1, 0, 0, 0])
+MASSES = box([2, 0, 2], [1, 0, -1])
+HEARD = row(1, "1/2", "-1/3")
+OFF = row(1, "1/2", -3)
+SEEN = ((ONE, ONE), (HALF, (3, 2)), (O, LESS))
+ODDLY = ((ONE, ONE), (ONE, (4, 1)))
+CLAIM = ("share", RUB, ONE)
+CLAIMS = (CLAIM, ("keeper", LAG), ("told", HEARD), ("hole", RUB, HEARD), ("log", SEEN))
+REQUESTS = "add damper 1/2\npush 1 0\nlate 1\nundo\nbox"
 
 # For each function: its parameters in their order, each with its kind and a value.
 CALLS = {
@@ -225,7 +233,7 @@ CALLS = {
     },
 }
 # Where lists are given back, in which things of tuples stand.
-GIVES_LISTS = {"marks", "spans", "lots_that_keep", "least_lots", "pairs_that_keep"}
+GIVES_LISTS = {"marks", "spans", "lots_that_keep", "least_lots", "pairs_that_keep", "replies"}
 
 NEVER = (None, True, "ab", 1.5, {}, b"ab", object(), {1, 2}, ["a"], [[[[]]]], ((1,),), (1, "1"))
 NO_FRACTION = (5, (), (1,), (2, 4), (0, 2), (1, 0), (1, -2), (1, 2, 3), (True, 1), (1, True), (ONE, ONE))
@@ -242,6 +250,19 @@ NO_FOUR = (5, (), FOUR[:3], FOUR + (ONE,), row(0, 0, 0, 2), row(-1, 1, 0, 2), ro
            (ONE, ONE, O, (4, 2)), (1, 1, 0, 2))
 NO_SCRIPT = (5, ((0, PART),), ((-1, PART),), ((True, PART),), ((ONE, PART),), ((1, PART, 1),), ((1,),), (1, PART),
              ((1, ("rod", ONE)),), ((1, ("spring", O)),), ((None, PART),), (PART,), ((2, PART), None), (((2, PART),),))
+NO_HEARD = NEVER + NO_ROW + ((), (ONE,) * 13)
+NO_LOG = NEVER + (5, (), (ONE,), ONE, ((O, ONE),), ((ONE,),), ((ONE, ONE, ONE),), ((ONE, ONE), (ONE,)), (ONE, ONE),
+                  ((ONE, (2, 2)),), ((ONE, 1),), ((ONE, ONE), None), (((True, 1), ONE),), ((ONE, (1, True)),))
+# The values of each are no CLAIMS, also where lists are taken for tuples.
+NO_CLAIM = NEVER + (
+    5, (), ("keeper",), ("Keeper", RUB), ("keeper", RUB, RUB), ("keeper", WIDE), ("keepers", RUB), (RUB, "keeper"),
+    (["keeper"], RUB), (True, RUB), ("alone", ()), ("alone", RUB, ONE), ("pair",), ("pair", None), ("share", RUB),
+    ("share", RUB, LESS), ("share", RUB, (2, 2)), ("share", WIDE, ONE), ("share", RUB, ONE, ONE), ("share", ONE, RUB),
+    ("company", RUB), ("company", RUB, (-1, 9)), ("company", RUB, 1), ("told", ()), ("told", (O, O)),
+    ("told", (ONE,) * 13), ("told", RUB), ("told", (ONE,), (ONE,)), ("told", ONE), ("hole", RUB), ("hole", RUB, ()),
+    ("hole", RUB, (ONE,) * 13), ("hole", (ONE,), RUB), ("hole", WIDE, (ONE,)), ("hole", RUB, ONE), ("log",), ("log", ()),
+    ("log", ((O, ONE),)), ("log", ((ONE, O),)), ("log", ((ONE, O), (TWO, O))), ("log", (ONE,)), ("log", SEEN, SEEN),
+    ("office", RUB), ("", RUB))
 WRONG = {
     "fraction": NEVER + NO_FRACTION,
     "above 0": NEVER + NO_FRACTION + (O, LESS),
@@ -277,6 +298,19 @@ WRONG = {
     "script": NEVER[:4] + NEVER[5:] + NO_SCRIPT,
     "scripts": NEVER[:4] + NEVER[5:] + ((), SCRIPT) + tuple((SCRIPT, own) for own in NO_SCRIPT),
     "amounts": NEVER[:4] + NEVER[5:] + NO_ROW + ((LESS,), row(1, 2, "-1/9")),
+    "to 3": NO_NUMBER + (4, 10 ** 30),
+    "1 to 3": NO_NUMBER + (0, 4, 10 ** 30),
+    "which": NO_NUMBER + (2, 10 ** 30, O),
+    "heard": NO_HEARD + ((O,), (O,) * 12),
+    "outer": NO_HEARD,
+    "steps": NEVER[:4] + NEVER[5:] + NO_ROW + ((TWO,), row("1/2", "-9/8"), row(1, "1/2"), row(-1, 0, 1), (O,) * 12),
+    "pushes": NEVER + NO_ROW + ((), row(0, 1), (O,)),
+    "log": NO_LOG,
+    "told log": NO_LOG + (((ONE, O),), ((ONE, O), (TWO, O))),
+    "claim": NO_CLAIM,
+    "claims": (None, True, "ab", 1.5, {}, b"ab", object(), ["a"], CLAIM, (None,)) + tuple((own,) for own in NO_CLAIM[9:])
+              + tuple((CLAIM, own) for own in NO_CLAIM[9:]),
+    "string": (None, True, False, 5, 1.5, (), [], ("keeps",), ["keeps"], b"keeps", {}, object()),
     "six boxes": NEVER[:4] + NEVER[5:] + (5, (), SPRING, (WIDE,), (SPRING, None), (SPRING, WIDE), ((),), (RUB,) * 7),
 }
 # Of any TABLE, or none at all, may be handed in here.

@@ -27,6 +27,12 @@ def pairs_of(text):
     return out
 
 
+def shown_error(error):
+    """An error as the document shows it: its name, and what it keeps."""
+    kept = [f"{name}={value!r}" for name, value in vars(error).items()]
+    return f"{type(error).__name__}({', '.join(kept)})"
+
+
 def check_examples(case, text, names):
     """Runs text in names; each answer must look just as it is shown."""
     for code, shown in pairs_of(text):
@@ -38,5 +44,6 @@ def check_examples(case, text, names):
                 with case.assertRaises(wanted) as caught:
                     eval(code, names)
                 case.assertIs(type(caught.exception), wanted)
+                case.assertEqual(shown, "raises " + shown_error(caught.exception))
             else:
                 case.assertEqual(repr(eval(code, names)), shown)

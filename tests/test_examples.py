@@ -3,8 +3,8 @@
 import pathlib
 import unittest
 
-from keepcompany import (alone, boxes, curves, drawn, keepers, loops, mixtures, numbers, parts, runaways, shares,
-                         stores, whoever, works)
+from keepcompany import (alone, boxes, curves, desk, drawn, holes, judge, keepers, logs, loops, mixtures, numbers,
+                         office, parts, runaways, shares, stores, takings, texts, told, whoever, works)
 
 from doc_examples import check_examples, names_of, pairs_of
 
@@ -295,18 +295,164 @@ raises CanNot()
 raises CanNot()
 """
 
+TAKINGS = """
+>>> both, mass, half = ((two, none, two), (one, none, less)), ((one, less), (one, one)), (1, 2)
+>>> most_spring(both), most_mass(both), most_spring(damped), most_mass(damped), most_ring(ring, none), most_ring(ring, half)
+((1, 1), (1, 1), (1, 1), (0, 1), (1, 1), (0, 1))
+>>> taken(both, ("spring", one)) == mass, taken(both, ("mass", half)), after_all(damped)
+(True, (((3, 2), (1, 1), (3, 2)), ((1, 1), (0, 1), (-1, 1))), (((1, 1),), ((1, 1),)))
+>>> [is_most(damped, own) for own in (("damper", one), ("spring", one), ("spring", half), ("mass", one), ["damper", one])]
+[True, True, False, False, False]
+>>> [late_spring((3, 2), k) for k in (0, 1, 2)], [late_mass(half, k) for k in (0, 1, 2, 3)]
+([(0, 1), (3, 1), (6, 1)], [(0, 1), None, (2, 1), None])
+>>> is_giving_row(late(spring, 1), late_row(spring, 1)), lags_borne(spring, two), lags_borne(mass, (4, 1)), lag_damper(mass, 1, half)
+(True, (0, 1), (0, 2), None)
+>>> wall(one, one, 0), wall(one, none, 1)
+((((2, 1), (0, 1)), ((1, 1), (-1, 1))), (((0, 1), (1, 1), (1, 1)), ((1, 1), (-1, 1), (0, 1))))
+>>> low, high = wall_damper(one, none, 1, (1, 8))
+>>> low[0] < 2 * low[1], high[0] >= 2 * high[1]
+(True, True)
+>>> after_all(both)
+raises CanNot()
+"""
+
+TOLD = """
+>>> one, two, half, none = (1, 1), (2, 1), (1, 2), (0, 1)
+>>> [can_be(own) for own in ((one, one), (one, two), (one, (3, 1)), (none, one))], [first_off(own) for own in ((one, one, (3, 1)), (none, one), (one, one))]
+([True, True, False, False], [3, 1, None])
+>>> [is_row_for_all((one, (3, 1)), own) for own in ((one, (-1, 1)), (one, one), (one,), [one, (-1, 1)])], is_row_for_all((none, one), row_for_all((none, one)))
+([True, False, False, False], True)
+>>> next_stretch((one,)), next_stretch((one, one)), next_stretch((one, two)), led_on((one, one), 2)
+(((-2, 1), (2, 1)), ((-1, 1), (2, 1)), ((2, 1), (2, 1)), ((1, 1), (1, 1), (1, 2), (1, 4)))
+>>> end_box((one, one), 0), end_box((one, one), 1), only_one((one, two)), only_one((one, one)), echoes(some_box((one, one)), 2)
+((((1, 1), (0, 1), (-1, 1)), ((1, 1), (-1, 1), (1, 1))), (((1, 1), (1, 1), (1, 1)), ((1, 1), (0, 1), (-1, 1))), (((1, 1), (1, 1)), ((1, 1), (-1, 1))), None, ((1, 1), (1, 1)))
+>>> steps_of((one, one, none)), steps_of((one, two, two, two)), from_steps(one, (half, (-1, 3)))
+(((1, 2), (-1, 3)), ((1, 1), (0, 1), (0, 1)), ((1, 1), (1, 1), (0, 1)))
+>>> next_stretch((one, (3, 1)))
+raises CanNot()
+>>> row_for_all((one, one))
+raises NoPaper()
+>>> can_be((none, none))
+raises Unfit()
+"""
+
+HOLES = """
+>>> damper, more, spring = ((one,), (one,)), ((two,), (one,)), ((one, one), (one, (-1, 1)))
+>>> outer_of(damper, spring), inner_echoes(damper, (half, (-1, 2), none)), outer_echoes(damper, (one, two, two))
+((((1, 2), (-1, 2)), ((1, 1), (0, 1))), ((1, 1), (2, 1), (2, 1)), ((1, 2), (-1, 2), (0, 1)))
+>>> [could_show(damper, own) for own in ((half, (1, 4)), (one, none), (two,), (half, (3, 1)))], [first_strange(damper, own) for own in ((half, (3, 1)), (one, none, one), (half, half))]
+([True, True, False, False], [2, 3, None])
+>>> next_outer(damper, (half, (1, 4))), outer_end(damper, (half, (1, 4)), 0), next_outer(damper, (one,)), outer_end(damper, (one,), 0)
+(((-3, 8), (3, 8)), (((1, 1), (-1, 1), (1, 1)), ((1, 1), (0, 1), (-1, 1))), ((0, 1), (0, 1)), None)
+>>> [is_first(damper, own) for own in (one, half, two, none)], [same_inside(damper, (half,), more, (own,)) for own in ((2, 3), half)]
+([True, True, False, False], [True, False])
+>>> outer_of((((-1, 1),), (one,)), damper)
+raises Stuck()
+>>> inner_echoes(((none, one), (one, none)), (one,))
+raises CanNot()
+>>> why_none(damper, (half,))
+raises NoPaper()
+"""
+
+LOGS = """
+>>> o, i, less = (0, 1), (1, 1), (-1, 1)
+>>> seen, odd, coil = ((i, i), (i, (3, 2))), ((i, i), (i, (4, 1))), ((i, i), (i, less))
+>>> echoes_of(seen), [could_be(own) for own in (seen, odd)], next_answer(seen, o), next_answer(seen, i)
+(((1, 1), (1, 2)), [True, False], ((-5, 4), (5, 2)), ((-1, 4), (7, 2)))
+>>> log_of(coil, (i, i)), next_answer(log_of(coil, (i, i)), o)
+((((1, 1), (1, 1)), ((1, 1), (3, 1))), ((4, 1), (4, 1)))
+>>> log_end(seen, o, 1), next_answer(log_end(seen, o, 1), o)
+((((1, 1), (1, 1)), ((1, 1), (3, 2)), ((0, 1), (5, 2))), ((5, 2), (5, 2)))
+>>> is_row_for_all(echoes_of(odd), surely_gives(odd)), put_in_of(odd), whoever_could(odd), whoever_could(((i, i), (less, (2, 1))))
+(True, (5, 1), True, False)
+>>> logs_agree(log_of(coil, (i, i)), ((i, i), (o, (2, 1)), (o, o))), logs_agree(seen, odd), [is_log(own) for own in (seen, ((o, i),), (), [(i, i)])]
+(True, False, [True, False, False, False])
+>>> next_answer(odd, o)
+raises CanNot()
+>>> surely_gives(seen)
+raises NoPaper()
+"""
+
+JUDGE = """
+>>> o, one, two, less, half = (0, 1), (1, 1), (2, 1), (-1, 1), (1, 2)
+>>> rub, push, ramp = ((two,), (one,)), ((less,), (one,)), ((one, o), (one, less))
+>>> shows(("keeper", rub), ()), shows(("keeper", push), ("curve", o)), shows(("keeper", rub), ("curve", o))
+(True, False, None)
+>>> shows(("alone", push), ("spring", two)), shows(("alone", push), ("spring", one)), shows(("alone", rub), ())
+(True, None, False)
+>>> shows(("pair", push), (two, o, (-3, 1), o)), shows(("pair", push), (two, o, (-2, 1), o)), shows(("pair", rub), ())
+(True, None, False)
+>>> shows(("share", rub, one), ()), shows(("share", rub, two), ()), shows(("share", rub, (3, 1)), (two, o, (-3, 1), o))
+(True, True, False)
+>>> is_so(("company", push, half)), is_so(("company", push, two)), shows(("company", push, two), ())
+(False, True, True)
+>>> shows(("told", (one, one)), ramp), shows(("told", (one, (3, 1))), (one, less)), shows(("told", (one, one)), rub)
+(True, False, None)
+>>> shows(("hole", ((one,), (one,)), (half,)), ((one,), (one,))), shows(("hole", ((one,), (one,)), (two,)), (one,))
+(True, False)
+>>> shows(("log", ((one, one), (o, one))), ramp), shows(("log", ((one, less),)), (one,))
+(True, False)
+>>> not_so((("keeper", rub), ("keeper", push))), words_so((("keeper", rub), ("keeper", push), ("alone", push)))
+((1,), ('alone',))
+>>> turned_by((("keeper", rub), ("alone", rub), ("told", (one,))), push), is_claim(("keeper", ((one, one), (one, one))))
+((0, 1), False)
+>>> is_so(("company", push, one))
+raises Stuck()
+"""
+
+TEXTS = r"""
+>>> fraction_text((-3, 2)), fraction_text((4, 1)), fraction_in("-3/2"), fraction_in("0")
+('-3/2', '4', (-3, 2), (0, 1))
+>>> box_text((((1, 1), (1, 2)), ((1, 1), (-1, 1)))), box_in("tops 2/3\nbottoms 1")
+('tops 1 1/2\nbottoms 1 -1', (((2, 3),), ((1, 1),)))
+>>> script_text(((3, ("spring", (1, 2))), (1, ("mass", (5, 1))))), script_text(()), script_in("2 damper 1/3")
+('3 spring 1/2\n1 mass 5', '', ((2, ('damper', (1, 3))),))
+>>> log_text((((1, 1), (1, 1)), ((0, 1), (-3, 2)))), log_in("1 0\n-1/2 7")
+('1 1\n0 -3/2', (((1, 1), (0, 1)), ((-1, 2), (7, 1))))
+>>> fraction_in("2/4")
+raises BadText(line=0)
+>>> box_in("tops 1 0\nbottoms 1")
+raises BadText(line=1)
+>>> box_in("tops 1 0")
+raises BadText(line=1)
+>>> script_in("3 spring 1/2\n0 mass 1")
+raises BadText(line=1)
+>>> log_in("0 1\n1 1")
+raises BadText(line=0)
+>>> log_in("")
+raises BadText(line=0)
+"""
+
+OFFICE = r"""
+>>> office = Office(coil)
+>>> office.do(("add", ("damper", (1, 2)))), office.box_now(), office.heard((i, o)), office.keeps()
+(None, (((3, 2), (1, 2)), ((1, 1), (-1, 1))), (((1, 1), (3, 2)), ((0, 1), (2, 1))), True)
+>>> office.do(("late", 1)), office.keeps(), is_one_part(office.box_now(), office.alone()), office.undo(), office.keeps()
+(None, False, True, ('late', 1), True)
+>>> office.do(("off", ("spring", i))), office.do(("turn",)), office.box_now(), len(office)
+(None, None, (((2, 1),), ((1, 1),)), 3)
+>>> replies(coil, "keeps\nadd damper 1/2\nbox\npush 1 0\nlate 1\nkeeps\nruns damper 4\nruns damper 1\nundo\noff spring 1\noff damper 1/2\nbox\nredo")
+['yes', 'done', 'tops 3/2 1/2 | bottoms 1 -1', '3/2 2', 'done', 'no', 'yes', 'no', 'done', 'done', 'refused CanNot', 'tops 1/2 | bottoms 1', 'refused CanNot']
+>>> office.alone()
+raises NoPaper()
+>>> replies(coil, "box\nlate 0")
+raises BadText(line=1)
+"""
+
 # In the order of the document: a name is that of the nearest example ahead.
 SECTIONS = [("boxes", BOXES), ("numbers", NUMBERS), ("works", WORKS), ("curves", CURVES),
             ("stores", STORES), ("keepers", KEEPERS), ("parts", PARTS), ("loops", LOOPS),
             ("alone", ALONE), ("runaways", RUNAWAYS), ("whoever", WHOEVER), ("drawn", DRAWN),
-            ("shares", SHARES), ("mixtures", MIXTURES)]
+            ("shares", SHARES), ("mixtures", MIXTURES), ("takings", TAKINGS), ("told", TOLD),
+            ("holes", HOLES), ("logs", LOGS), ("judge", JUDGE), ("texts", TEXTS), ("office", OFFICE)]
+MODULES = [alone, boxes, curves, desk, drawn, holes, judge, keepers, logs, loops, mixtures, numbers, office, parts,
+           runaways, shares, stores, takings, texts, told, whoever, works]
 
 
 class ExampleTests(unittest.TestCase):
 
     def test_every_example(self):
-        names = names_of([alone, boxes, curves, drawn, keepers, loops, mixtures, numbers, parts, runaways, shares,
-                          stores, whoever, works])
+        names = names_of(MODULES)
         for section, text in SECTIONS:
             with self.subTest(section=section):
                 check_examples(self, text, names)

@@ -30,7 +30,11 @@ STARTS = ("_wall", "_pe_", "_dcw_", "_enum_", "_cm_", "_twin_re_", "_lay_", "_la
           "_sre", "__", "f_", "tb_", "co_", "gi_", "cr_", "ag_")
 NEVER = (ast.AsyncFunctionDef, ast.Global, ast.Set, ast.SetComp, ast.GeneratorExp, ast.Div,
          ast.Yield, ast.YieldFrom, ast.Await, ast.NamedExpr, ast.With, ast.Import,
-         ast.JoinedStr, ast.Try, ast.MatMult, ast.Nonlocal, ast.Delete)
+         ast.JoinedStr, ast.MatMult, ast.Nonlocal, ast.Delete)
+ERRORS = {"Unfit", "Stuck", "CanNot", "NoPaper", "TooMany", "BadText"}
+FIELDS = {"line", "first", "done", "held", "undone"}
+OWN_METHODS = {"do", "undo", "redo", "edits", "twin", "box_now", "keeps", "alone", "heard"}
+DOUBLE = {"__init__", "__eq__", "__len__"}
 # What a value at module level is made of.
 PLAIN = (ast.Constant, ast.Tuple, ast.BinOp, ast.Pow, ast.UnaryOp, ast.USub, ast.Load)
 
@@ -135,6 +139,9 @@ class LanguageTests(unittest.TestCase):
                     self.assertIsInstance(node.right, ast.Constant)
                 if isinstance(node, ast.Call):
                     self.assertFalse(any(isinstance(own, ast.Starred) for own in node.args))
+                if isinstance(node, ast.Try):
+                    self.assertEqual(node.finalbody, [])
+                    self.assertTrue(all(own.type.id in ERRORS for own in node.handlers), path)
 
     def test_names(self):
         for path, tree in trees():
@@ -142,16 +149,41 @@ class LanguageTests(unittest.TestCase):
             brought = {one.name for node in imports_of(tree) for one in node.names}
             for node in ast.walk(tree):
                 if isinstance(node, ast.Attribute):
-                    self.assertIn(node.attr, METHODS | {"line", "__init__"}, path)
+                    self.assertIn(node.attr, METHODS | FIELDS | OWN_METHODS | {"__init__"}, path)
                 if isinstance(node, ast.Name) and isinstance(node.ctx, ast.Load):
                     if node.id in dir(builtins):
                         self.assertIn(node.id, BUILTINS, path)
                 if isinstance(node, ast.FunctionDef):
                     names = bound_in(node)
                     self.assertEqual(names & (brought | own), set(), (path, node.name))
-                    for name in names | {node.name} - {"__init__"}:
+                    for name in (names | {node.name}) - DOUBLE:
                         self.assertNotIn(name, BARRED | set(dir(builtins)), (path, node.name))
                         self.assertFalse(name.startswith(STARTS), (path, name))
+
+    def test_classes(self):
+        for path, tree in trees():
+            for node in tree.body:
+                if not isinstance(node, ast.ClassDef):
+                    continue
+                methods = [own for own in node.body if isinstance(own, ast.FunctionDef)]
+                self.assertTrue(all(isinstance(own, ast.FunctionDef) for own in node.body[1:]), path)
+                names = [own.name for own in methods]
+                self.assertEqual(len(names), len(set(names)), path)
+                self.assertLessEqual({own for own in names if own.startswith("_")}, DOUBLE)
+                stored = {own.attr for own in ast.walk(node)
+                          if isinstance(own, ast.Attribute) and isinstance(own.ctx, ast.Store)}
+                self.assertLessEqual(stored, FIELDS)
+                self.assertEqual(stored & set(names), set(), path)
+                for own in methods:
+                    if own.name in ("__eq__", "__len__"):
+                        self.assertEqual(len(own.body), 1)
+                        self.assertIsInstance(own.body[0], ast.Return)
+
+    def test_no_sort_in_place_beside_a_class_that_compares(self):
+        for path, tree in trees():
+            for node in ast.walk(tree):
+                if isinstance(node, ast.Attribute):
+                    self.assertNotEqual(node.attr, "sort", path)
 
     def test_loops_leave_alone_what_they_go_over(self):
         for path, tree in trees():
