@@ -127,3 +127,9 @@ def any_box(chance, cells):
         tops = [any_fraction(chance) for _ in range(cells + 1)]
         if any(tops):
             return box(tops, [1] + [any_fraction(chance) for _ in range(cells)])
+
+
+def small_pairs():
+    """Words of one and of two small numbers, a blank between."""
+    words = ("-1", "0", "1", "1/2", "2")
+    return list(words) + [f"{one} {other}" for one in words for other in words]

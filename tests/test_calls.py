@@ -15,6 +15,9 @@ from call_table import (ANY_SIZE, CALLS, CLAIM, CLAIMS, DAMPED, FADE, FLAT, FOUR
                         STUCK, TWICE, WIDE, WRONG)
 from helpers import HALF, LESS, O, ONE, TWO, box, lists, row
 
+LATE = box([0, 0, 0, 1], [1, 0, 0, 0])
+LONG = ((ONE, ONE),) * 13
+
 
 def each_call():
     for module, listed in CALLS.items():
@@ -142,9 +145,30 @@ class CallTests(unittest.TestCase):
                      lambda: shares.share_of_sum(RUB, box([-2], [1]), TWO), lambda: mixtures.mixed(RUB, PUSH, 2),
                      lambda: mixtures.keep_span(LAG, RUB, TWO), lambda: mixtures.crowd((PUSH, box([1], [1]), WIDE)),
                      lambda: mixtures.is_keep_span(GREAT, GREAT, O, 1), lambda: mixtures.failing_lot((RUB,), 1),
-                     lambda: mixtures.damper_for_all((GREAT, box([0, 0, 0, 1], [1, 0, 0, 2])), O)):
+                     lambda: mixtures.damper_for_all((GREAT, box([0, 0, 0, 1], [1, 0, 0, 2])), O),
+                     lambda: takings.most_ring(LAG, ONE), lambda: takings.taken(RUB, ("damper", (4, 2))),
+                     lambda: takings.late_row(LATE, 0), lambda: takings.lag_damper(LATE, 3, O),
+                     lambda: takings.lags_borne(GREAT, 1), lambda: takings.wall_damper(ONE, LESS, 1, ONE),
+                     lambda: told.led_on(OFF, 41), lambda: told.end_box(OFF, True), lambda: told.row_for_all((O,)),
+                     lambda: holes.inner_echoes(LAG, (ONE, 1)), lambda: holes.outer_end(LAG, (O,), 2),
+                     lambda: holes.outer_echoes(PUSH, (ONE, None)), lambda: holes.is_first(LAG, 0),
+                     lambda: holes.outer_of(PUSH, WIDE), lambda: holes.same_inside(LAG, (O,), RUB, ()),
+                     lambda: holes.same_inside(LAG, (ONE,), WIDE, (ONE,)), lambda: logs.next_answer(LONG, 1),
+                     lambda: logs.log_end(LONG, ONE, 2), lambda: logs.could_be(LONG[:0]),
+                     lambda: logs.log_of(LAG, (O, ONE)), lambda: judge.not_so((("hole", LAG, (ONE,)), ("keeper", WIDE))),
+                     lambda: judge.words_so((("log", LONG), None)), lambda: judge.turned_by((("hole", LAG, (ONE,)),), WIDE),
+                     lambda: judge.shows(("company", PUSH, LESS), ()), lambda: desk.replies(WIDE, "x"),
+                     lambda: desk.last_office(RUB, None), lambda: texts.box_text(WIDE)):
             with self.assertRaises(Unfit):
                 call()
+
+    def test_the_first_argument_that_is_none_decides_nothing_more(self):
+        """All wrong at once: Unfit, whatever thing is."""
+        for function, name, listed in each_call():
+            kinds = [own[1] for own in listed]
+            if all(kind in WRONG and kind != "row" for kind in kinds if kind != "thing") and kinds != ["thing"]:
+                with self.subTest(name=name), self.assertRaises(Unfit):
+                    function(*[None for _ in listed])
 
     def test_things_are_taken_as_they_are(self):
         calls = [(boxes.is_box, (), SPRING), (works.is_giving_row, (LAG,), (ONE, LESS)),
@@ -155,7 +179,16 @@ class CallTests(unittest.TestCase):
                  (drawn.is_drawing_row, (DAMPED, (ONE,), 2), row("-1/3", "-1/3")),
                  (shares.is_share, (RUB, ONE, row(3)[0]), ((), row(2, 0, -3, 0))),
                  (shares.is_share, (SOFT, HALF, ONE), shares.share_papers(SOFT, HALF, ONE)),
-                 (shares.is_pair_of_share, (PUSH, HALF), row(1, 0, -3, 0))]
+                 (shares.is_pair_of_share, (PUSH, HALF), row(1, 0, -3, 0)),
+                 (takings.is_most, (RUB,), ("damper", TWO)), (told.is_row_for_all, (OFF,), row(1, 0, 1)),
+                 (judge.is_claim, (), ("keeper", RUB)), (judge.is_claim, (), ("share", SOFT, ONE)),
+                 (judge.is_claim, (), ("company", LAG, HALF)),
+                 (judge.is_claim_paper, (("alone", PUSH),), ("mass", HALF)),
+                 (judge.is_claim_paper, (("pair", TWICE),), FOUR), (judge.is_claim_paper, (("keeper", FADE),), ((ONE,),)),
+                 (judge.is_claim_paper, (("keeper", LAG),), ("curve", LESS)),
+                 (judge.is_claim_paper, (("told", OFF),), row(1, 0, 1)), (judge.is_claim_paper, (("told", (ONE,)),), SOFT),
+                 (judge.is_claim_paper, (("hole", RUB, (ONE,)),), box(["1/2"], [1])),
+                 (judge.is_claim_paper, (("log", ODDLY),), (ONE, LESS))]
         for function, ahead, thing in calls:
             self.assertIs(function(*ahead, thing), True)
             for wrong in spoiled(thing):
@@ -163,6 +196,24 @@ class CallTests(unittest.TestCase):
                     self.assertIs(function(*ahead, wrong), False)
             for wrong in (None, True, False, 0, 1, -3, "", "store", [], (), ((),), [[]], ((((((((1,),),),),),),),)):
                 self.assertIs(function(*ahead, wrong), False)
+
+    def test_logs_and_claims_are_taken_as_they_are(self):
+        for own in SEEN:
+            for wrong in spoiled(own):
+                self.assertIs(logs.is_log((SEEN[0], wrong)), False)
+                self.assertIs(judge.is_claim(("log", (SEEN[0], wrong))), False)
+        for wrong in NO_LOG + (list(SEEN), [], 0, "log"):
+            self.assertIs(logs.is_log(wrong), False)
+        for own in CLAIMS:
+            self.assertIs(judge.is_claim(own), True)
+            self.assertIs(judge.is_claim(list(own)), False)
+            self.assertIs(judge.is_claim(own[:1] + (lists(own[1]),) + own[2:]), False)
+        for wrong in NO_CLAIM:
+            self.assertIs(judge.is_claim(wrong), False)
+            self.assertIsNone(judge.shows(CLAIM, wrong if wrong != () else None))
+        for echo in spoiled(HEARD[1]):
+            self.assertIs(judge.is_claim(("told", (ONE, echo))), False)
+            self.assertIs(judge.is_claim(("hole", RUB, (ONE, echo))), False)
 
     def test_scripts_are_taken_as_they_are(self):
         self.assertIs(whoever.is_script(()), True)
