@@ -11,6 +11,8 @@ from keepcompany.spans import between_spans, ceiling, spans_of
 
 NEAREST = (1, 10 ** 9)
 FINEST = (1, 10 ** 31)
+# Amounts with which most GIVERS run, tried ahead of the MARKS, which take long.
+PLAIN = ((1, 1), (256, 1), (1, 256))
 
 
 def taken_kind(value):
@@ -122,9 +124,19 @@ def part_that_runs(box):
     raise NoPaper()
 
 
+def some_part(box):
+    """A PART with which box runs away, one of plain amounts if it can be; NoPaper if it is a KEEPER."""
+    if not keeps(box):
+        for amount in PLAIN:
+            for kind in KINDS:
+                if away(box, box_of((kind, amount))):
+                    return kind, amount
+    return part_that_runs(box)
+
+
 def one_part(box):
     """A PART with which box runs away."""
-    return part_that_runs(taken_small(box))
+    return some_part(taken_small(box))
 
 
 def is_one_part(box, thing):

@@ -4,7 +4,7 @@ Five kinds come to whether some BOX is a KEEPER: a STORE shows that it is. The
 other three come to whether some KEEPER begins with ECHOES that are told.
 """
 
-from keepcompany.alone import part_that_runs
+from keepcompany.alone import some_part
 from keepcompany.checks import is_fraction, is_row, taken
 from keepcompany.errors import Stuck
 from keepcompany.holes import inner_of_outer
@@ -17,7 +17,7 @@ from keepcompany.ratios import ZERO, negated
 from keepcompany.rims import keeps, with_bottoms
 from keepcompany.runaways import pair_found
 from keepcompany.shapes import first_echoes, small_shaped, taken_small
-from keepcompany.shares import answers_nothing, inner_of, lead_with
+from keepcompany.shares import inner_of, lead_with
 from keepcompany.stores import store_found, store_shaped
 from keepcompany.told import MOST_HEARD, silent, speaks_against
 
@@ -55,7 +55,7 @@ def both_shaped(word, box, thing):
 
 def claim_shaped(thing):
     """Whether thing is a CLAIM."""
-    if not isinstance(thing, tuple) or len(thing) not in (2, 3) or not isinstance(thing[0], str):
+    if not isinstance(thing, tuple) or len(thing) not in (2, 3):
         return False
     if len(thing) == 2:
         return alone_shaped(thing[0], thing[1])
@@ -82,7 +82,11 @@ def echoes_asked(claim):
 
 
 def box_asked(claim):
-    """The BOX, maybe one that answers nothing, that keeps or does not as the CLAIM is so or not."""
+    """The BOX on which the CLAIM hangs: whether it is a KEEPER.
+
+    If all its tops are 0 it has no cells, and all here tell of it what they
+    tell of a KEEPER with none: its STORE is ().
+    """
     if claim[0] == "share":
         return with_bottoms(claim[1], negated(claim[2]))
     if claim[0] != "company":
@@ -92,26 +96,18 @@ def box_asked(claim):
     return inner_of(claim[1], claim[2])
 
 
-def keeps_asked(box):
-    return answers_nothing(box) or keeps(box)
-
-
 def holds(claim):
     """Whether the CLAIM is so."""
     if claim[0] in OF_ECHOES:
         return fall_of(echoes_asked(claim)) is None
-    return keeps_asked(box_asked(claim)) != (claim[0] in OF_GIVERS)
-
-
-def store_paper(box):
-    return () if answers_nothing(box) else store_found(box)
+    return keeps(box_asked(claim)) != (claim[0] in OF_GIVERS)
 
 
 def giver_paper(word, box):
     """A PAPER, as word wants it, that box is a GIVER."""
     if word == "keeper":
         return refusal(box)
-    return part_that_runs(box) if word == "alone" else pair_found(box)
+    return some_part(box) if word == "alone" else pair_found(box)
 
 
 def echoes_paper(heard):
@@ -121,15 +117,8 @@ def echoes_paper(heard):
     return None if silent(heard) else middle_box(heard)
 
 
-def shows_kept(box, thing):
-    """Whether thing shows that box keeps."""
-    return thing == () if answers_nothing(box) else store_shaped(box, thing)
-
-
 def shows_giver(word, box, thing):
     """Whether thing shows, as word wants it, that box is a GIVER."""
-    if answers_nothing(box):
-        return False
     if word == "keeper":
         return refuses(box, thing)
     if word == "alone":
@@ -152,7 +141,7 @@ def judged(claim, thing):
             return True
         return False if speaks_against(heard, thing) else None
     box = box_asked(claim)
-    if shows_kept(box, thing):
+    if store_shaped(box, thing):
         return claim[0] not in OF_GIVERS
     return claim[0] in OF_GIVERS if shows_giver(claim[0], box, thing) else None
 
@@ -173,7 +162,7 @@ def claim_paper(claim):
     if own[0] in OF_ECHOES:
         return echoes_paper(echoes_asked(own))
     box = box_asked(own)
-    return store_paper(box) if keeps_asked(box) else giver_paper(own[0], box)
+    return store_found(box) if keeps(box) else giver_paper(own[0], box)
 
 
 def is_claim_paper(claim, thing):

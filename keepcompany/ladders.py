@@ -77,8 +77,7 @@ def climbed_by(first, steps):
     weights, half = (), plus(first, first)
     for step in steps:
         heard += (plus(middle_by(weights, heard), mult(step, half)),)
-        if half != ZERO:
-            weights, half = next_weights(weights, step), next_half(half, step)
+        weights, half = next_weights(weights, step), next_half(half, step)
     return heard
 
 

@@ -10,6 +10,7 @@ from keepcompany.nearby import zero_near
 from keepcompany.points import four_shaped, other_of, pair_by, pair_shaped, size_of
 from keepcompany.ratios import (ONE, ZERO, below, fractions, minus, mult, negated, over, plus, plus_rows,
                                 times_row, wholes)
+from keepcompany.rims import keeps
 from keepcompany.rolls import machine_of_both, rolled, units_of
 from keepcompany.shapes import cells_of, polys_of, rest_of, taken_small
 from keepcompany.spans import between_spans, ceiling, spans_of
@@ -61,6 +62,8 @@ def other_that_runs(box):
 
 def pair_found(box):
     """A PAIR of box; NoPaper if it is a KEEPER."""
+    if keeps(box):
+        raise NoPaper()
     found = real_pair(box)
     if found is not None:
         return found

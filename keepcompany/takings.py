@@ -13,7 +13,7 @@ from keepcompany.polys import multiplied, parted, shared_part, trimmed, valued
 from keepcompany.ratios import ONE, ZERO, mult, negated, over, wholes
 from keepcompany.rims import HIGH, LOW, keeps, with_bottoms
 from keepcompany.shapes import cells_of, polys_of, taken_small
-from keepcompany.shares import answers_nothing, keeps_damped, least_damper
+from keepcompany.shares import keeps_damped, least_damper
 from keepcompany.spans import fraction_roots
 
 MOST_LATE = 3
@@ -74,8 +74,8 @@ def is_most(box, thing):
         return False
     kind, amount = thing
     if kind == "damper":
-        left = with_bottoms(own, negated(amount))
-        return answers_nothing(left) or spares_none(left)
+        # What is left may have tops of 0s alone: of that none can be spared, too.
+        return spares_none(with_bottoms(own, negated(amount)))
     return most_of(own, box_of((kind, ONE))) == amount
 
 

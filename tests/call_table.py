@@ -31,11 +31,48 @@ GREAT = box([1, 0, 0, 1], [1, 0, 0, 0])
 MASSES = box([2, 0, 2], [1, 0, -1])
 HEARD = row(1, "1/2", "-1/3")
 OFF = row(1, "1/2", -3)
-SEEN = ((ONE, ONE), (HALF, (3, 2)), (O, LESS))
+SEEN = ((ONE, ONE), (HALF, (3, 2)), (O, ONE))
 ODDLY = ((ONE, ONE), (ONE, (4, 1)))
 CLAIM = ("share", RUB, ONE)
 CLAIMS = (CLAIM, ("keeper", LAG), ("told", HEARD), ("hole", RUB, HEARD), ("log", SEEN))
 REQUESTS = "add damper 1/2\npush 1 0\nlate 1\nundo\nbox"
+
+# The interface of point [25]: what each file defines.
+INTERFACE = """
+numbers: poly_sum poly_times poly_parted value_at common_part each_once by_multiplicity roots_between root_spans
+    never_below row_below solved zeros_outside
+boxes: is_box is_small made_small rest beat run echoes summed times late turned
+works: work_of work_sums even_table work_by_table gives_within giving_row is_giving_row first_gift turned_row
+    work_of_sum
+curves: slants curve curve_at curve_below parts_of_curve touches is_loss_free rim_pair curve_of_sum
+stores: squares_for are_squares square_gap gap_of store_by store is_store worth stores_mixed store_of_turned
+    cell_bounds loss_free_store
+keepers: is_keeper paper is_paper why_not keeps_turned keeps_by_rows is_border nearest_keeper echo_bound keepers_of
+parts: is_part part_box part_store part_work parts_box spring_and_mass tone edge_of in_sector pair_at
+loops: is_stuck loop joined_beat joined_run pushed_run joined_worth joined_bound runs_away outside_of joined_gift
+alone: marks spans runs_with is_quiet one_part is_one_part one_of_kind kinds_that_run stuck_amount least_amount
+    part_for_times
+runaways: pair is_pair near_zero pair_near growth pair_loop pair_run is_pair_run row_of_pair passes pair_for_times
+whoever: is_script script_run script_worths stays dampers_run put_in bound_for is_within worst_exchange held_still
+drawn: most_drawn drawing_row is_drawing_row rises drawn_table need needing_row come_to between never_more drawn_all
+shares: with_damper share share_papers is_share least_damper inner_share keeps_with_share safe_from pair_of_share
+    is_pair_of_share share_of_sum
+mixtures: mixed keep_span is_keep_span crowd lots_that_keep least_lots pairs_that_keep spoilers damper_for_all
+    failing_lot
+takings: most_spring most_mass most_ring taken is_most after_all late_spring late_mass late_row lag_damper
+    lags_borne wall wall_damper
+told: can_be first_off row_for_all is_row_for_all next_stretch led_on end_box some_box only_one steps_of from_steps
+holes: outer_of inner_echoes outer_echoes could_show why_none first_strange next_outer outer_end is_first
+    same_inside
+logs: is_log echoes_of log_of could_be surely_gives next_answer log_end logs_agree put_in_of whoever_could
+judge: is_claim is_so claim_paper is_claim_paper shows not_so words_so turned_by
+texts: fraction_text fraction_in box_text box_in script_text script_in log_text log_in
+office: Office
+desk: is_request replies last_office
+"""
+# The methods of an Office, with their parameters.
+METHODS = {"__init__": ["box"], "do": ["edit"], "undo": [], "redo": [], "edits": [], "twin": [], "box_now": [],
+           "keeps": [], "alone": [], "heard": ["pushes"], "__len__": [], "__eq__": ["other"]}
 
 # For each function: its parameters in their order, each with its kind and a value.
 CALLS = {
@@ -230,6 +267,85 @@ CALLS = {
         "spoilers": [("boxes", "six boxes", (RUB, LAG))],
         "damper_for_all": [("boxes", "six boxes", (RUB, LAG)), ("width", "width", HALF)],
         "failing_lot": [("boxes", "six boxes", (RUB, LAG)), ("e", "fraction", O)],
+    },
+    takings: {
+        "most_spring": [("box", "small", DAMPED)],
+        "most_mass": [("box", "small", MASSES)],
+        "most_ring": [("box", "small", RING), ("c", "inner cosine", (3, 5))],
+        "taken": [("box", "small", DAMPED), ("part", "part", PART)],
+        "is_most": [("box", "small", DAMPED), ("thing", "thing", ("damper", ONE))],
+        "after_all": [("box", "small", DAMPED)],
+        "late_spring": [("amount", "above 0", HALF), ("k", "to 3", 2)],
+        "late_mass": [("amount", "above 0", HALF), ("k", "to 3", 2)],
+        "late_row": [("box", "small", DAMPED), ("k", "1 to 3", 2)],
+        "lag_damper": [("box", "small", DAMPED), ("k", "to 3", 1), ("width", "width", HALF)],
+        "lags_borne": [("box", "small", DAMPED), ("e", "fraction", TWO)],
+        "wall": [("stiff", "above 0", HALF), ("rub", "not below 0", ONE), ("k", "to 3", 1)],
+        "wall_damper": [("stiff", "above 0", HALF), ("rub", "not below 0", ONE), ("k", "to 3", 1),
+                        ("width", "width", HALF)],
+    },
+    told: {
+        "can_be": [("heard", "heard", HEARD)],
+        "first_off": [("heard", "heard", OFF)],
+        "row_for_all": [("heard", "heard", OFF)],
+        "is_row_for_all": [("heard", "heard", OFF), ("thing", "thing", row(1, 0, 1))],
+        "next_stretch": [("heard", "heard", HEARD)],
+        "led_on": [("heard", "heard", HEARD), ("k", "to 40", 3)],
+        "end_box": [("heard", "heard", HEARD), ("which", "which", 1)],
+        "some_box": [("heard", "heard", HEARD)],
+        "only_one": [("heard", "heard", row(1, 2))],
+        "steps_of": [("heard", "heard", HEARD)],
+        "from_steps": [("first", "above 0", HALF), ("steps", "steps", row("1/3", "-1/2", 1, 0))],
+    },
+    holes: {
+        "outer_of": [("box", "small", FADE), ("other", "small", LAG)],
+        "inner_echoes": [("box", "small", FADE), ("outer", "outer", HEARD)],
+        "outer_echoes": [("box", "small", FADE), ("within", "outer", HEARD)],
+        "could_show": [("box", "small", FADE), ("outer", "outer", HEARD)],
+        "why_none": [("box", "small", FADE), ("outer", "outer", row(2, 5))],
+        "first_strange": [("box", "small", FADE), ("outer", "outer", HEARD)],
+        "next_outer": [("box", "small", RUB), ("outer", "outer", row(1, "1/3"))],
+        "outer_end": [("box", "small", RUB), ("outer", "outer", row(1, "1/3")), ("which", "which", 0)],
+        "is_first": [("box", "small", RUB), ("number", "fraction", HALF)],
+        "same_inside": [("box", "small", RUB), ("outer", "outer", (ONE,)), ("other", "small", STUCK),
+                        ("other_outer", "outer", (HALF,))],
+    },
+    logs: {
+        "is_log": [("thing", "thing", SEEN)],
+        "echoes_of": [("log", "log", SEEN)],
+        "log_of": [("box", "small", FADE), ("pushes", "pushes", PUSHES)],
+        "could_be": [("log", "told log", SEEN)],
+        "surely_gives": [("log", "told log", ODDLY)],
+        "next_answer": [("log", "told log", SEEN), ("push", "fraction", HALF)],
+        "log_end": [("log", "told log", SEEN), ("push", "fraction", HALF), ("which", "which", 1)],
+        "logs_agree": [("log", "log", SEEN), ("other_log", "log", ODDLY)],
+        "put_in_of": [("log", "log", SEEN)],
+        "whoever_could": [("log", "log", SEEN)],
+    },
+    judge: {
+        "is_claim": [("thing", "thing", CLAIM)],
+        "is_so": [("claim", "claim", CLAIM)],
+        "claim_paper": [("claim", "claim", CLAIM)],
+        "is_claim_paper": [("claim", "claim", CLAIM), ("thing", "thing", ())],
+        "shows": [("claim", "claim", CLAIM), ("thing", "thing", ())],
+        "not_so": [("claims", "claims", CLAIMS)],
+        "words_so": [("claims", "claims", CLAIMS)],
+        "turned_by": [("claims", "claims", CLAIMS), ("box", "small", SPRING)],
+    },
+    texts: {
+        "fraction_text": [("value", "fraction", HALF)],
+        "fraction_in": [("word", "string", "-3/2")],
+        "box_text": [("box", "small", FADE)],
+        "box_in": [("text", "string", "tops 1 1/2\nbottoms 1 -1")],
+        "script_text": [("script", "script", SCRIPT)],
+        "script_in": [("text", "string", "3 spring 1/2\n1 mass 5")],
+        "log_text": [("log", "log", SEEN)],
+        "log_in": [("text", "string", "1 1\n0 -3/2")],
+    },
+    desk: {
+        "is_request": [("line", "string", "add damper 1/2")],
+        "replies": [("box", "small", SPRING), ("text", "string", REQUESTS)],
+        "last_office": [("box", "small", SPRING), ("text", "string", REQUESTS)],
     },
 }
 # Where lists are given back, in which things of tuples stand.

@@ -10,9 +10,9 @@ from keepcompany import (alone, boxes, curves, desk, drawn, holes, judge, keeper
 from keepcompany.errors import Unfit
 from keepcompany.office import Office
 
-from call_table import (ANY_SIZE, CALLS, CLAIM, CLAIMS, DAMPED, FADE, FLAT, FOUR, GIVES_LISTS, GREAT, HEARD, LAG, NO_CLAIM,
-                        NO_LOG, NO_SCRIPT, ODD, ODDLY, OFF, P, PART, PULL, PUSH, RUB, RUN, SCRIPT, SEEN, SOFT, SPRING,
-                        STUCK, TWICE, WIDE, WRONG)
+from call_table import (ANY_SIZE, CALLS, CLAIM, CLAIMS, DAMPED, FADE, FLAT, FOUR, GIVES_LISTS, GREAT, HEARD, INTERFACE,
+                        LAG, METHODS, NO_CLAIM, NO_LOG, NO_SCRIPT, ODD, ODDLY, OFF, P, PART, PULL, PUSH, RUB, RUN,
+                        SCRIPT, SEEN, SOFT, SPRING, STUCK, TWICE, WIDE, WRONG)
 from helpers import HALF, LESS, O, ONE, TWO, box, lists, row
 
 LATE = box([0, 0, 0, 1], [1, 0, 0, 0])
@@ -39,6 +39,25 @@ class CallTests(unittest.TestCase):
                 self.assertIn("/" + function.__module__.split(".")[1] + ".py",
                               function.__code__.co_filename)
                 self.assertEqual(list(inspect.signature(function).parameters), [own[0] for own in told])
+
+    def test_the_whole_interface(self):
+        listed, last = {}, None
+        for line in INTERFACE.strip("\n").split("\n"):
+            name, _, names = line.partition(":") if not line.startswith(" ") else (last, "", line)
+            listed.setdefault(name, []).extend(names.split())
+            last = name
+        self.assertEqual(listed.pop("office"), ["Office"])
+        called = {module.__name__.partition(".")[2]: list(told) for module, told in CALLS.items()}
+        self.assertEqual({name: sorted(own) for name, own in called.items()},
+                         {name: sorted(own) for name, own in listed.items()})
+        self.assertEqual(sum(len(own) for own in listed.values()), 212)
+
+    def test_the_methods_of_an_office(self):
+        self.assertEqual(Office.__module__, "keepcompany.office")
+        self.assertEqual(Office.__bases__, (object,))
+        for name, parameters in METHODS.items():
+            self.assertIn(name, vars(Office))
+            self.assertEqual(list(inspect.signature(vars(Office)[name]).parameters)[1:], parameters)
 
     def test_errors(self):
         for name in ("Unfit", "Stuck", "CanNot", "NoPaper", "TooMany", "BadText"):

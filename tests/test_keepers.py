@@ -114,6 +114,10 @@ class KeeperTests(unittest.TestCase):
                       ("store", ()), ("curve", ONE), ("curve", LESS), ("damper",), "store", None, True, (), ((),),
                       (("store",), kept), (None, kept), ("damper", ONE)):
             self.assertIs(is_paper(FADE, wrong), False)
+        # A CURVE that is below 0 only beyond -1, or beyond 1.
+        for own, c in ((box([1, "1/2"], [1, "1/3"]), -2), (box([1, "-1/2"], [1, "-1/3"]), 2)):
+            self.assertEqual(curve_at(own, pair(Fraction(c, 2)))[0] > 0, True)
+            self.assertIs(is_paper(own, ("curve", pair(c))), False)
         self.assertIs(is_paper(lag, ("curve", (-1, 10 ** 9))), True)
         for wrong in (("curve", O), ("curve", ONE), ("curve", [-1, 2]), ("curve", (-2, 4)), ("curve", (-2, 1)),
                       ("curve", (-BIG - 1, BIG)), ("curve", -1), ("curve", LESS, LESS), ("curve",), ["curve", LESS],

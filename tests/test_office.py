@@ -24,7 +24,7 @@ NO_EDITS = (None, True, 5, "turn", (), ("turn", ONE), ("turns",), ("Turn",), (Tr
             ("add", "spring", ONE), ("add", ("spring", ONE), 1), ("off", ("mass",)), ("off",), ("times", O), ("times", LESS),
             ("times", 2), ("times", (4, 2)), ("times",), ("times", ("spring", ONE)), ("late", 0), ("late", -1),
             ("late", True), ("late", ONE), ("late",), ("late", 1, 1), ("late", None), ("undo",), ("redo",), ("keeps",),
-            (("turn",),), ((),), ("late", (1,)), ("add", ONE), ({},), ("box",), ("runs", ("spring", ONE)))
+            (("turn",),), ((),), ("late", (1,)), ("soon", 1), ("", 2), ("add", ONE), ({},), ("box",), ("runs", ("spring", ONE)))
 
 
 def some_edit(chance):
@@ -267,6 +267,8 @@ class OfficeTests(unittest.TestCase):
         self.assertEqual(back.box_now(), COIL)
         self.assertNotEqual(back, Office(COIL))
         self.assertIs(Office(COIL) == Office(COIL), True)
+        self.assertIs(Office(COIL) == Office(spring(2)), False)
+        self.assertIs(Office(damper(1)) != Office(damper(2)), True)
 
     def test_what_is_handed_in_may_change_later(self):
         own, edit, pushes = lists(COIL), ["add", ["damper", [1, 2]]], [[1, 1], [0, 1]]

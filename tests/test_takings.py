@@ -347,6 +347,9 @@ class LateTests(unittest.TestCase):
         three = box([1, 0, 0, 1], [1, 0, 0, 0])
         with self.assertRaises(TooMany):
             lags_borne(three, ONE)
+        # However few cells it has when it is late.
+        with self.assertRaises(TooMany):
+            lags_borne(box([1, 0, 0, 0], [1, 0, 0, "1/2"]), ONE)
         with self.assertRaises(Unfit):
             lags_borne(three, 1)
 
